@@ -1,0 +1,1 @@
+"""Shiftroads: grammars, tables that read by them, and papers for what is told."""

@@ -1,0 +1,323 @@
+"""Values, grammars and checks that the tests share."""
+
+import random
+
+from shiftroads.errors import RoadError, TooMany
+
+G = (("num", "plus"), "S", (("S", ("S", "plus", "N")), ("S", ("N",)), ("N", ("num",))))
+F = (("a", "b"), "S", (("S", ("A", "S", "b")), ("S", ()), ("A", ("a",)), ("A", ())))
+C = (
+    ("a", "b"),
+    "S",
+    (("S", ("A", "S", "a")), ("S", ("b",)), ("A", ()), ("B", ("A", "B")), ("S", ("B",)), ("D", ("a",))),
+)
+
+
+def nested(depth, as_list=False):
+    value = [] if as_list else ()
+    for _ in range(depth - 1):
+        value = [value] if as_list else (value,)
+    return value
+
+
+def junk():
+    """Values of all kinds; none is a grammar, a draft, a tree or anything else of the package."""
+    return [
+        0, 1, -1, 7, True, False, None, 10 ** 119, -(10 ** 119),
+        "", "a", "S", "num", "N", "x" * 4000, "\t", "100%", "\u00e9", "a b", "9",
+        [], [1], ["a"], (), ("a",), ("S",), (1,), (True,), (None,), ((),), ([],), ("%",),
+        nested(100), nested(100, True), (("a",), "S", [("S", ())]), tuple(range(20000)), ["a"] * 20000,
+        ("a",) * 401, ("num",) * 401, RoadError("x"), TooMany(3),
+    ]
+
+
+def frozen(value):
+    """A picture of a value, to see whether it was changed."""
+    return repr(value)
+
+
+def error_of(function, *arguments):
+    """The error that a call raises, or None."""
+    try:
+        function(*arguments)
+    except Exception as error:
+        return error
+    return None
+
+
+def check_refusals(case, function, good, errors, fine):
+    """Each wrong argument raises its error, whatever stands behind it; nothing is changed.
+
+    errors has an error for each argument (None for any value); fine tells, for each argument, whether
+    a value may stand there.
+    """
+    case.assertIsNone(error_of(function, *good))
+    for at, error in enumerate(errors):
+        if error is None:
+            continue
+        for bad in junk():
+            if fine[at](bad):
+                continue
+            for tail in (list(good[at + 1:]), [None] * (len(good) - at - 1), [bad] * (len(good) - at - 1)):
+                arguments = list(good[:at]) + [bad] + tail
+                before = frozen(arguments)
+                told = error_of(function, *arguments)
+                case.assertIs(type(told), error, (function.__name__, at, before[:200]))
+                case.assertIsInstance(told, RoadError)
+                case.assertIsInstance(told, ValueError)
+                case.assertEqual(frozen(arguments), before)
+
+
+def nothing(_):
+    return False
+
+
+ODD_LEAVES = (
+    True, False, 1, 0, -1, None, "", "9a", "a_b", "a b", "%", "\u00e9a", "z" * 21, "Z" * 21, "zz", "Zz", (), [], ("a",),
+)
+
+
+def bent(value):
+    """All values that come from one by bending it in one place."""
+    found = [other for other in ODD_LEAVES if repr(other) != repr(value)]
+    found.append(nested(90))
+    if isinstance(value, tuple):
+        found.append(list(value))
+        found.append(value + ("zz",))
+        for at, part in enumerate(value):
+            found.append(value[:at] + value[at + 1:])
+            found.append(value[:at] + (part,) + value[at:])
+            if at:
+                found.append(value[:at - 1] + (part, value[at - 1]) + value[at + 1:])
+            for other in bent(part):
+                found.append(value[:at] + (other,) + value[at + 1:])
+    if isinstance(value, int) and not isinstance(value, bool):
+        found.extend([value + 1, value - 1, bool(value), str(value), 10 ** 119])
+    if isinstance(value, str):
+        found.extend([value + "z", value[:-1], value.upper(), value.lower(), value + "%", value[::-1], [value]])
+    return found
+
+
+def is_plain_name(value, first):
+    """A second way to tell names."""
+    letters = "abcdefghijklmnopqrstuvwxyz"
+    if not isinstance(value, str) or value == "" or len(value) > 20:
+        return False
+    if value[0] not in (letters if first == "small" else letters.upper()):
+        return False
+    return all(sign in letters + letters.upper() + "0123456789" for sign in value)
+
+
+def names_in(value):
+    if isinstance(value, tuple):
+        return [name for part in value for name in names_in(part)]
+    return [value]
+
+
+def random_grammar(rng, most_right=3):
+    """A small grammar, often with empty right sides, rings and nonterminals without trees."""
+    terminals = tuple("abc"[:rng.randint(1, 3)])
+    nonterminals = ["S", "A", "B", "D"][:rng.randint(1, 4)]
+    symbols = list(terminals) + nonterminals * rng.randint(1, 2)
+    rules = {}
+    for left in nonterminals:
+        rules[left, tuple(rng.choice(symbols) for _ in range(rng.randint(0, most_right)))] = True
+    for _ in range(rng.randint(0, 6)):
+        left = rng.choice(nonterminals)
+        rules[left, tuple(rng.choice(symbols) for _ in range(rng.randint(0, most_right)))] = True
+    order = list(rules)
+    rng.shuffle(order)
+    return (terminals, rng.choice(nonterminals), tuple(order))
+
+
+def random_grammars(seed, count, most_right=3):
+    rng = random.Random(seed)
+    return [random_grammar(rng, most_right) for _ in range(count)]
+
+
+def letters_of(grammar):
+    return sorted({left for left, _ in grammar[2]})
+
+
+def random_open_tree(rng, grammar, symbol, depth, chance=0.8):
+    """A random open tree as (tree, leaves, parts), or a bare symbol where the depth ends."""
+    rules = [(index, right) for index, (left, right) in enumerate(grammar[2]) if left == symbol]
+    if not rules or depth == 0 or rng.random() > chance:
+        return ((symbol,), (symbol,), [])
+    index, right = rng.choice(rules)
+    parts = [random_open_tree(rng, grammar, name, depth - 1, chance) for name in right]
+    tree = (index,) + tuple(item for part in parts for item in part[0])
+    leaves = tuple(leaf for part in parts for leaf in part[1])
+    return (tree, leaves, [part[0] for part in parts])
+
+
+def words_up_to(grammar, length):
+    """For each nonterminal the set of its rows of terminals of at most a length: by growing the sets."""
+    words = {left: set() for left, _ in grammar[2]}
+    changed = True
+    while changed:
+        changed = False
+        for left, right in grammar[2]:
+            rows = {()}
+            for symbol in right:
+                ends = words[symbol] if symbol in words else {(symbol,)}
+                rows = {row + end for row in rows for end in ends if len(row + end) <= length}
+            if not rows <= words[left]:
+                words[left] |= rows
+                changed = True
+    return words
+
+
+def all_rows(terminals, length):
+    rows = [()]
+    found = [()]
+    for _ in range(length):
+        rows = [row + (terminal,) for row in rows for terminal in terminals]
+        found.extend(rows)
+    return found
+
+
+def random_draft(rng, sizes=(4, 4, 3, 3)):
+    """A random draft; its names may be words of the texts, or the beginnings of one another."""
+    many_terminals, many_lines, many_alternatives, many_items = sizes
+    small = ["tokens", "left", "right", "none", "start", "a", "ab", "abC", "t1", "t12", "b" * 19, "b" * 20, "leftx"]
+    capital = ["S", "Start", "Tokens", "L1", "L2", "L", "Left", "A", "AB", "N" * 19, "N" * 20]
+    rng.shuffle(small)
+    rng.shuffle(capital)
+    terminals = tuple(small[:rng.randint(1, many_terminals)])
+    names = capital[:rng.randint(1, many_lines)]
+    symbols = list(terminals) + names
+    free = list(terminals)
+    rng.shuffle(free)
+    levels = []
+    while free and rng.random() < 0.5:
+        count = rng.randint(1, len(free))
+        levels.append((rng.choice(("left", "right", "none")), tuple(free[:count])))
+        free = free[count:]
+
+    def item():
+        one, other = rng.choice(symbols), rng.choice(symbols)
+        return rng.choice((one, one, one, ("*", one), ("+", one), ("?", one), ("*", one, other), ("+", one, other)))
+
+    lines = []
+    for name in names:
+        rows = {}
+        for _ in range(rng.randint(1, many_alternatives)):
+            items = tuple(item() for _ in range(rng.randint(0, many_items)))
+            mark = rng.choice((None, None, rng.choice(terminals)))
+            rows[items] = (items, mark, rng.choice((None, None, "act", "left", "tokens")))
+        lines.append((name, tuple(rows.values())))
+    return (terminals, tuple(levels), rng.choice(names), tuple(lines))
+
+
+def random_drafts(seed, count, sizes=(4, 4, 3, 3)):
+    rng = random.Random(seed)
+    return [random_draft(rng, sizes) for _ in range(count)]
+
+
+def draft_with(terminals=2, levels=0, lines=1, alternatives=1, items=1):
+    """A draft with so many terminals, levels, lines, alternatives in all, and items in the first one."""
+    names = tuple(f"t{number}" for number in range(terminals))
+    told = tuple(("left", (name,)) for name in names[:levels])
+    rows = [[(("t0",) * items, None, None)]] + [[((), None, None)] for _ in range(lines - 1)]
+    for number in range(alternatives - lines):
+        right = tuple(("t0", "S")[number >> place & 1] for place in range(7))
+        rows[number % lines].append((right, None, None))
+    told_lines = tuple(("S" if at == 0 else f"S{at}", tuple(row)) for at, row in enumerate(rows))
+    return (names, told, "S", told_lines)
+
+
+def trees_by_height(grammar, known):
+    """A second way: the nonterminals with trees whose leaves are known symbols, by growing heights."""
+    names = {left for left, _ in grammar[2]}
+    found = set()
+    for _ in range(len(names) + 1):
+        found = {
+            name for name in names
+            if any(left == name and all(one in found or one in known for one in right) for left, right in grammar[2])
+        }
+    return found
+
+
+def plain_steps(grammar, sort, rules=None):
+    """A second way: the pairs of symbols of steps, of all, bare or left ones."""
+    empties = trees_by_height(grammar, ())
+    found = set()
+    for left, right in grammar[2] if rules is None else rules:
+        for place, symbol in enumerate(right):
+            others = {"all": (), "left": right[:place], "bare": right[:place] + right[place + 1:]}[sort]
+            if all(other in empties for other in others):
+                found.add((left, symbol))
+    return found
+
+
+def closed_pairs(pairs):
+    """The pairs of one or more steps, one behind the other."""
+    names = sorted({name for pair in pairs for name in pair})
+    found = set(pairs)
+    for middle in names:
+        for one in names:
+            if (one, middle) in found:
+                found |= {(one, other) for other in names if (middle, other) in found}
+    return found
+
+
+def chain_grammars():
+    """Grammars with chains of 40 nonterminals, in both orders of the rules."""
+    links = [(f"N{at}", (f"N{at + 1}",)) for at in range(39)]
+    found = []
+    for last in (("N39", ("a",)), ("N39", ()), ("N39", ("N39",)), ("N39", ("N0",)), ("N39", ("a", "N0"))):
+        for order in (links + [last], [last] + links[::-1]):
+            found.append((("a", "b"), "N0", tuple(order)))
+            found.append((("a", "b"), "N20", tuple(order)))
+    wide = tuple((name, right * 8) for name, right in links)
+    found.append((("a",), "N0", wide + (("N39", ()),) + tuple((name, ()) for name, _ in links[::3])))
+    return found
+
+
+def random_regex(rng, letters, depth):
+    """A random regular tree over some letters."""
+    if depth == 0 or rng.random() < 0.25:
+        return ("letters", "".join(sorted(rng.sample(letters, rng.randint(1, min(3, len(letters)))))))
+    sort = rng.choice(("row", "row", "or", "many", "some", "maybe"))
+    if sort in ("row", "or"):
+        count = rng.randint(0 if sort == "row" else 2, 3)
+        return (sort, tuple(random_regex(rng, letters, depth - 1) for _ in range(count)))
+    return (sort, random_regex(rng, letters, depth - 1))
+
+
+def words_and_beginnings(tree, most):
+    """By the words of the document: the words of at most a length that a tree matches, and such beginnings of words."""
+    sort, inner = tree
+    if sort == "letters":
+        return set(inner) if most else set(), {""} | (set(inner) if most else set())
+    if sort == "row":
+        words, begins = {""}, {""}
+        for part in inner:
+            more, more_begins = words_and_beginnings(part, most)
+            begins |= {word + end for word in words for end in more_begins if len(word + end) <= most}
+            words = {word + end for word in words for end in more if len(word + end) <= most}
+        return words, begins
+    if sort == "or":
+        pairs = [words_and_beginnings(part, most) for part in inner]
+        return set().union(*[pair[0] for pair in pairs]), set().union(*[pair[1] for pair in pairs])
+    words, begins = words_and_beginnings(inner, most)
+    if sort == "maybe":
+        return words | {""}, begins | {""}
+    found = {""}
+    new = {""}
+    while new:
+        new = {one + word for one in new for word in words if len(one + word) <= most} - found
+        found |= new
+    begins = {one + end for one in found for end in begins if len(one + end) <= most}
+    if sort == "some":
+        found = {one + word for one in found for word in words if len(one + word) <= most}
+    return found, begins
+
+
+def all_words(letters, most):
+    words, found = [""], [""]
+    for _ in range(most):
+        words = [word + letter for word in words for letter in letters]
+        found.extend(words)
+    return found

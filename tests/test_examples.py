@@ -1,0 +1,78 @@
+"""The examples of the document, word for word."""
+
+import doctest
+import unittest
+
+from shiftroads.checkpapers import judge_paper, ladder_tree, opposite, paper_for
+from shiftroads.checks import left_corners, productive, reached, ringed, trimmed, useless_rules
+from shiftroads.errors import BadGrammar
+from shiftroads.firsts import empty_nonterminals, first_terminals, is_sentence
+from shiftroads.grammars import is_grammar, nonterminals_of
+from shiftroads.grammartexts import print_grammar, read_grammar
+from shiftroads.machines import least_machine, word_machine
+from shiftroads.regexes import read_regex, regex_ends
+from shiftroads.sugar import plain_grammar, sweet_tree
+from shiftroads.trees import is_open_tree, is_tree, leaves_of, parts_of
+
+EXAMPLES = r'''
+    >>> G = (("num", "plus"), "S", (("S", ("S", "plus", "N")), ("S", ("N",)), ("N", ("num",))))
+    >>> [is_grammar(G), is_grammar(G[:2]), is_grammar((("plus", "num"),) + G[1:]), is_grammar((("num",),) + G[1:]), nonterminals_of(G)]
+    [True, False, False, False, ('N', 'S')]
+
+    >>> W = (0, 1, 2, "num", "plus", 2, "num")
+    >>> [is_tree(G, "S", W), is_tree(G, "S", W[:6]), is_tree(G, "S", (0, "S", "plus", "N")), is_open_tree(G, "S", (0, "S", "plus", "N")), is_tree(G, "num", ("num",)), leaves_of(G, "S", W)]
+    [True, False, False, True, True, ('num', 'plus', 'num')]
+    >>> [parts_of(G, "S", W), parts_of(G, "N", ("N",)), parts_of(G, "N", (2, "num"))]
+    [[(1, 2, 'num'), ('plus',), (2, 'num')], [], [('num',)]]
+
+    >>> F = (("a", "b"), "S", (("S", ("A", "S", "b")), ("S", ()), ("A", ("a",)), ("A", ())))
+    >>> [empty_nonterminals(F), first_terminals(F, ("S",)), first_terminals(F, ("A", "A")), first_terminals(G, ("plus", "S")), first_terminals(F, ())]
+    [('A', 'S'), ('a', 'b'), ('a',), ('plus',), ()]
+    >>> [is_sentence(G, ("num", "plus", "num")), is_sentence(G, ("num", "plus")), is_sentence(F, ("a", "b", "b")), is_sentence(F, ()), is_sentence(F, ("a",))]
+    [True, False, True, True, False]
+
+    >>> T = "tokens oar, sail, rope;\nleft sail;\nstart Fleet;\nFleet = Boat/rope*;\nBoat = sail Boat oar @row\n  | oar;\n"
+    >>> D = read_grammar(T)
+    >>> [D[:3], D[3][0], D[3][1], print_grammar(D) == T]
+    [(('oar', 'sail', 'rope'), (('left', ('sail',)),), 'Fleet'), ('Fleet', (((('*', 'Boat', 'rope'),), None, None),)), ('Boat', ((('sail', 'Boat', 'oar'), None, 'row'), (('oar',), None, None))), True]
+
+    >>> [plain_grammar(D)[2][:3], plain_grammar(D)[2][3:]]
+    [(('Fleet', ('L1',)), ('Boat', ('sail', 'Boat', 'oar')), ('Boat', ('oar',))), (('L1', ()), ('L1', ('L2',)), ('L2', ('Boat',)), ('L2', ('L2', 'rope', 'Boat')))]
+    >>> sweet_tree(D, (0, 4, 6, 5, 2, "oar", "rope", 1, "sail", 2, "oar", "oar"))
+    (0, 2, 2, 'oar', 'rope', 1, 'sail', 2, 'oar', 'oar')
+
+    >>> C = (("a", "b"), "S", (("S", ("A", "S", "a")), ("S", ("b",)), ("A", ()), ("B", ("A", "B")), ("S", ("B",)), ("D", ("a",))))
+    >>> [productive(C), reached(C), ringed(C), left_corners(C, "S"), useless_rules(C), trimmed(C)[2]]
+    [('A', 'D', 'S'), ('A', 'B', 'S', 'a', 'b'), ('B',), ('A', 'B', 'S', 'b'), (3, 4, 5), (('S', ('A', 'S', 'a')), ('S', ('b',)), ('A', ()))]
+
+    >>> [judge_paper(C, ("productive", "S"), (2, 1, 0)), judge_paper(C, ("productive", "B"), (3,)), judge_paper(C, ("barren", "B"), ("B",)), judge_paper(C, ("ring", "B"), ((2,), ((3, 1),)))]
+    [True, False, True, True]
+    >>> [opposite(C, ("apart", "D")), judge_paper(C, ("apart", "D"), ("A", "B", "S", "a", "b")), ladder_tree(C, (2, 1, 0), "S"), paper_for(C, ("reached", "D"))]
+    [('reached', 'D'), True, (1, 'b'), None]
+
+    >>> read_regex("a[b-d]*")
+    ('row', (('letters', 'a'), ('many', ('letters', 'bcd'))))
+    >>> regex_ends(read_regex("(ab|a)b?"), "abb", 0)
+    [1, 2, 3]
+
+    >>> least_machine(word_machine((read_regex("ab*"), read_regex("[ab]"))))
+    ((-1, (('a', 1), ('b', 2))), (0, (('b', 1),)), (1, ()))
+'''
+
+
+class Examples(unittest.TestCase):
+    def test_all(self):
+        test = doctest.DocTestParser().get_doctest(EXAMPLES, dict(globals()), "examples", None, 0)
+        report = []
+        result = doctest.DocTestRunner(verbose=False).run(test, out=report.append)
+        self.assertEqual(result.failed, 0, "".join(report))
+        self.assertEqual(result.attempted, 20)
+
+    def test_refused_text(self):
+        with self.assertRaises(BadGrammar) as caught:
+            read_grammar("tokens a; start S; S = b;")
+        self.assertEqual((caught.exception.line, caught.exception.sign), (1, 24))
+
+
+if __name__ == "__main__":
+    unittest.main()
