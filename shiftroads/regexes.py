@@ -33,7 +33,12 @@ def read_regex(text):
     """Return the tree of a regular text."""
     if not is_text(text, LONGEST_REGEX):
         raise InvalidText("no string of at most 200 characters")
-    reader = RegexReader(text)
+    return rule_tree(text, 0)
+
+
+def rule_tree(text, rule):
+    """Return the tree of a regular text, which is that of the rule with an index."""
+    reader = RegexReader(text, rule)
     tree = reader.read_choice()
     if reader.place < len(text):
         reader.refuse(reader.place)
@@ -73,14 +78,15 @@ def check_text(text):
 class RegexReader:
     """Goes through a regular text, and refuses it at the first place where no regular text goes on."""
 
-    def __init__(self, text):
+    def __init__(self, text, rule):
         self.text = text
+        self.rule = rule
         self.place = 0
         self.depth = 0
 
     def refuse(self, place):
         """Raise BadRegex at a place."""
-        raise BadRegex(0, place)
+        raise BadRegex(self.rule, place)
 
     def peek(self):
         """Return the character at the place that is reached, or the empty string at the end."""

@@ -321,3 +321,239 @@ def all_words(letters, most):
         words = [word + letter for word in words for letter in letters]
         found.extend(words)
     return found
+
+
+EG = (("b", "c"), "S", (("S", ("b", "S")), ("S", ("c",))))
+FL = (
+    ("dash", "mark", "open", "shut", "word"),
+    "S",
+    (
+        ("S", ("open", "N", "shut")), ("S", ("N", "dash", "N")), ("S", ("open", "word", "dash")), ("N", ("word",)),
+        ("N", ("word", "mark", "N")),
+    ),
+)
+FC = (
+    ("down", "go", "up", "word", "yes"),
+    "S",
+    (
+        ("S", ("up", "A")), ("S", ("down", "B")), ("A", ("P", "yes")), ("A", ("Q", "go", "go")), ("B", ("Q", "yes")),
+        ("B", ("P", "go")), ("P", ("word", "word")), ("Q", ("word", "word")),
+    ),
+)
+GG = (("u", "v"), "D", (("D", ("D", "v")), ("D", ("v", "D")), ("D", ("u",))))
+# LALR, but not SLR.
+STARS = (
+    ("is", "name", "star"),
+    "S",
+    (("S", ("L", "is", "R")), ("S", ("R",)), ("L", ("star", "R")), ("L", ("name",)), ("R", ("L",))),
+)
+RINGS = (("a",), "S", (("S", ("S", "S")), ("S", ("A",)), ("A", ("S",)), ("A", ()), ("S", ("a",))))
+# B derives no row of terminals, D is not reached.
+LOST = (
+    ("a", "b"),
+    "S",
+    (("S", ("a", "B", "b")), ("B", ("b", "B")), ("S", ("A", "B")), ("A", ()), ("S", ("a",)), ("D", ("A", "a"))),
+)
+
+
+def fan(many, inner, more=0):
+    """A grammar with 2 + many * (3 + inner) + more canonical states, and 2 + 3 * many + inner + more others."""
+    names = tuple(f"a{at:02}" for at in range(40))
+    rules = [("S", (names[at], "X", names[at])) for at in range(many)]
+    rules += [("S", (names[39 - at],)) for at in range(more)]
+    for at in range(0, inner, 8):
+        rules.append(("X", (names[at // 8],) + names[:1] * (min(inner - at, 8) - 1)))
+    return (names, "S", tuple(rules))
+
+
+def flat(count):
+    """A grammar with so many states, from 3 to 602: long rules without nonterminals."""
+    names = fan(0, 0)[0]
+    rules = []
+    left = count - 2
+    while left:
+        at = len(rules)
+        more = min(left, 8 if at < 40 else 7)
+        row = (names[at % 40],) + (names[at // 40],) * 7
+        rules.append(("S", row[:more if at < 40 else more + 1]))
+        left -= more
+    return (names, "S", tuple(rules))
+
+
+def right_side(grammar, rule):
+    return (grammar[1],) if rule == -1 else grammar[2][rule][1]
+
+
+def all_items(grammar):
+    return [(rule, place) for rule in range(-1, len(grammar[2])) for place in range(len(right_side(grammar, rule)) + 1)]
+
+
+def behind_item(grammar, item):
+    """The symbol behind an item as a tuple of one, or () if there is none."""
+    return right_side(grammar, item[0])[item[1]:item[1] + 1]
+
+
+def plain_closed(grammar, items):
+    """A second way: all rules again and again, until nothing changes."""
+    found = set(items)
+    before = None
+    while before != found:
+        before = set(found)
+        for rule, (left, _) in enumerate(grammar[2]):
+            if any(behind_item(grammar, item) == (left,) for item in before):
+                found.add((rule, 0))
+    return tuple(sorted(found))
+
+
+def plain_moved(grammar, items, symbol):
+    return plain_closed(grammar, [(rule, place + 1) for rule, place in items if behind_item(grammar, (rule, place)) == (symbol,)])
+
+
+def plain_automaton(grammar):
+    """A second way: the states as they are found, and the rows of their ways."""
+    symbols = sorted(set(grammar[0]) | {left for left, _ in grammar[2]})
+    states = [plain_closed(grammar, [(-1, 0)])]
+    ways = []
+    for state in states:
+        row = []
+        for symbol in symbols:
+            target = plain_moved(grammar, state, symbol)
+            if target:
+                if target not in states:
+                    states.append(target)
+                row.append((symbol, states.index(target)))
+        ways.append(tuple(row))
+    return states, ways
+
+
+def plain_firsts(grammar):
+    """A second way: for each symbol the set of its first terminals, and "" if it derives the empty row."""
+    firsts = {name: {name} for name in grammar[0]}
+    firsts.update({left: set() for left, _ in grammar[2]})
+    before = None
+    while before != firsts:
+        before = {name: set(firsts[name]) for name in firsts}
+        for left, right in grammar[2]:
+            firsts[left] |= row_firsts(before, right)
+    return firsts
+
+
+def row_firsts(firsts, row):
+    found = {""}
+    for symbol in row:
+        if "" in found:
+            found = (found - {""}) | firsts[symbol]
+    return found
+
+
+def plain_canonical(grammar):
+    """A second way: the canonical states, as sets of (rule, place, token), "" for an item itself, and their ways."""
+    firsts = plain_firsts(grammar)
+
+    def closure(items):
+        found = set(items)
+        waiting = list(items)
+        while waiting:
+            rule, place, token = waiting.pop()
+            right = right_side(grammar, rule)
+            if place == len(right) or right[place] in grammar[0]:
+                continue
+            behind = row_firsts(firsts, right[place + 1:])
+            tokens = (behind - {""}) | ({token} if "" in behind else set()) | {""}
+            for other, (left, _) in enumerate(grammar[2]):
+                if left == right[place]:
+                    more = {(other, 0, one) for one in tokens} - found
+                    found |= more
+                    waiting.extend(more)
+        return frozenset(found)
+
+    states = [closure({(-1, 0, ""), (-1, 0, None)})]
+    numbers = {states[0]: 0}
+    ways = []
+    for state in states:
+        moves = {}
+        for rule, place, token in state:
+            for symbol in behind_item(grammar, (rule, place)):
+                moves.setdefault(symbol, set()).add((rule, place + 1, token))
+        row = []
+        for symbol in sorted(moves):
+            target = closure(moves[symbol])
+            if target not in numbers:
+                numbers[target] = len(states)
+                states.append(target)
+            row.append((symbol, numbers[target]))
+        ways.append(tuple(row))
+    return states, ways
+
+
+def token_key(token):
+    return (token is None, token or "")
+
+
+def plain_lot(tokens):
+    return tuple(sorted((token for token in tokens if token != ""), key=token_key))
+
+
+def told_state(state):
+    """A plain canonical state in the form that the document tells."""
+    lots = {}
+    for rule, place, token in state:
+        lots.setdefault((rule, place), set()).add(token)
+    return tuple((rule, place, plain_lot(lots[rule, place])) for rule, place in sorted(lots))
+
+
+def walked(ways, symbols):
+    """The state to which rows of ways lead, or None."""
+    state = 0
+    for symbol in symbols:
+        state = dict(ways[state]).get(symbol)
+        if state is None:
+            return None
+    return state
+
+
+def contexts_up_to(ways, length):
+    """All rows of symbols of at most a length that lead to a state, with this state."""
+    rows = [((), 0)]
+    found = list(rows)
+    for _ in range(length):
+        rows = [(row + (symbol,), target) for row, state in rows for symbol, target in ways[state]]
+        found.extend(rows)
+    return found
+
+
+def is_symbol_row(grammar):
+    names = set(grammar[0]) | {left for left, _ in grammar[2]}
+    return lambda value: type(value) is tuple and len(value) <= 400 and all(type(one) is str and one in names for one in value)
+
+
+def is_nonterminal_in(grammar):
+    return lambda value: type(value) is str and value in [left for left, _ in grammar[2]]
+
+
+def is_plain_item(grammar, value):
+    """A second way to tell items."""
+    if type(value) is not tuple or len(value) != 2 or type(value[0]) is not int or type(value[1]) is not int:
+        return False
+    return value in all_items(grammar)
+
+
+def check_steady(case, function, rows):
+    """Calls leave their arguments unchanged, and tell the same again, in a new list if it is a list."""
+    before = frozen(rows)
+    first = [function(*row) for row in rows]
+    for row, told in zip(rows[::-1], first[::-1]):
+        again = function(*row)
+        case.assertEqual(again, told)
+        if type(told) is list:
+            case.assertIsNot(again, told)
+            told.append("more")
+            case.assertEqual(function(*row), again)
+    case.assertEqual(frozen(rows), before)
+
+
+def check_too_many(case, limit, function, *arguments):
+    """A call raises TooMany with a limit."""
+    told = error_of(function, *arguments)
+    case.assertIs(type(told), TooMany, (function.__name__, repr(told)))
+    case.assertEqual(told.limit, limit)

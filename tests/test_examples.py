@@ -3,12 +3,17 @@
 import doctest
 import unittest
 
+from shiftroads.automata import least_context, spine_for, state_by, states_of, valid_items, ways_of
+from shiftroads.canonicals import canonical_states, canonical_ways, valid_lots
 from shiftroads.checkpapers import judge_paper, ladder_tree, opposite, paper_for
 from shiftroads.checks import left_corners, productive, reached, ringed, trimmed, useless_rules
 from shiftroads.errors import BadGrammar
 from shiftroads.firsts import empty_nonterminals, first_terminals, is_sentence
+from shiftroads.follows import follow_lot
 from shiftroads.grammars import is_grammar, nonterminals_of
 from shiftroads.grammartexts import print_grammar, read_grammar
+from shiftroads.items import closed, context_by, is_spine, items_of, moved
+from shiftroads.lexers import Lexer
 from shiftroads.machines import least_machine, word_machine
 from shiftroads.regexes import read_regex, regex_ends
 from shiftroads.sugar import plain_grammar, sweet_tree
@@ -57,6 +62,28 @@ EXAMPLES = r'''
 
     >>> least_machine(word_machine((read_regex("ab*"), read_regex("[ab]"))))
     ((-1, (('a', 1), ('b', 2))), (0, (('b', 1),)), (1, ()))
+
+    >>> Lexer((("word", "[a-z]+"), ("if", "if"), (None, " "))).tokens("if x")
+    (('word', 'if', 0), ('word', 'x', 3))
+
+    >>> EG = (("b", "c"), "S", (("S", ("b", "S")), ("S", ("c",))))
+    >>> [items_of(EG), closed(EG, ((0, 1),)), moved(EG, ((-1, 0), (0, 0), (1, 0)), "c"), moved(EG, ((1, 1),), "S")]
+    [((-1, 0), (-1, 1), (0, 0), (0, 1), (0, 2), (1, 0), (1, 1)), ((0, 0), (0, 1), (1, 0)), ((1, 1),), ()]
+    >>> [is_spine(EG, ((-1, 0), (0, 1), (1, 0))), is_spine(EG, ((-1, 0), (0, 0), (1, 0))), context_by(EG, ((-1, 0), (0, 1), (0, 2)))]
+    [True, False, ('b', 'b', 'S')]
+
+    >>> [states_of(EG)[2], ways_of(EG), state_by(EG, ("b", "b", "S")), state_by(EG, ("S", "S"))]
+    [((0, 0), (0, 1), (1, 0)), ((('S', 1), ('b', 2), ('c', 3)), (), (('S', 4), ('b', 2), ('c', 3)), (), ()), 4, None]
+    >>> [valid_items(EG, ("b", "c")), spine_for(EG, ("b",), (1, 0)), spine_for(EG, ("c",), (1, 0)), least_context(EG, 4), least_context(EG, 0)]
+    [((1, 1),), ((-1, 0), (0, 1), (1, 0)), None, ('b', 'S'), ()]
+
+    >>> FL = (("dash", "mark", "open", "shut", "word"), "S", (("S", ("open", "N", "shut")), ("S", ("N", "dash", "N")), ("S", ("open", "word", "dash")), ("N", ("word",)), ("N", ("word", "mark", "N"))))
+    >>> FC = (("down", "go", "up", "word", "yes"), "S", (("S", ("up", "A")), ("S", ("down", "B")), ("A", ("P", "yes")), ("A", ("Q", "go", "go")), ("B", ("Q", "yes")), ("B", ("P", "go")), ("P", ("word", "word")), ("Q", ("word", "word"))))
+    >>> [follow_lot(FL, "S"), follow_lot(FL, "N"), follow_lot(FC, "P")]
+    [(None,), ('dash', 'shut', None), ('go', 'yes')]
+
+    >>> [len(canonical_states(FL)), len(canonical_states(FC)), canonical_ways(FC)[0], valid_lots(FC, ("up", "word", "word")), valid_lots(FC, ("word",))]
+    [19, 19, (('S', 1), ('down', 2), ('up', 3)), ((6, 2, ('yes',)), (7, 2, ('go',))), ()]
 '''
 
 
@@ -66,7 +93,7 @@ class Examples(unittest.TestCase):
         report = []
         result = doctest.DocTestRunner(verbose=False).run(test, out=report.append)
         self.assertEqual(result.failed, 0, "".join(report))
-        self.assertEqual(result.attempted, 20)
+        self.assertEqual(result.attempted, 30)
 
     def test_refused_text(self):
         with self.assertRaises(BadGrammar) as caught:

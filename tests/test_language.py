@@ -30,6 +30,7 @@ STATEMENTS = (
     ast.Assign, ast.AugAssign, ast.If, ast.While, ast.For, ast.Return, ast.Break, ast.Continue, ast.Pass, ast.Raise,
     ast.Expr, ast.FunctionDef, ast.ClassDef, ast.ImportFrom,
 )
+LIBRARY = (("heapq", "heappop"), ("heapq", "heappush"))
 TAKES_GENERATOR = ("list", "tuple", "dict", "sorted", "sum", "min", "max", "any", "all")
 ON_THE_SPOT = ("zip", "enumerate", "reversed", "range")
 
@@ -47,8 +48,13 @@ def parsed():
     return [(name, ast.parse(text_of(name))) for name in files()]
 
 
-def imports_of(tree):
+def all_imports_of(tree):
     return [(node.module, alias.name) for node in tree.body if isinstance(node, ast.ImportFrom) for alias in node.names]
+
+
+def imports_of(tree):
+    """The imports from the package, without those of the library."""
+    return [(module, name) for module, name in all_imports_of(tree) if (module, name) not in LIBRARY]
 
 
 def defined_in(tree):
@@ -93,7 +99,7 @@ class Language(unittest.TestCase):
                 self.assertIsInstance(node, (ast.ImportFrom, ast.FunctionDef, ast.ClassDef, ast.Assign), name)
                 if isinstance(node, ast.Assign):
                     ast.literal_eval(node.value)
-            names = defined_in(tree) + [imported for _, imported in imports_of(tree)]
+            names = defined_in(tree) + [imported for _, imported in all_imports_of(tree)]
             self.assertEqual(len(set(names)), len(names), name)
 
     def test_imports(self):
@@ -114,13 +120,14 @@ class Language(unittest.TestCase):
     def test_imported_names_are_used(self):
         for name, tree in parsed():
             used = {node.id for node in ast.walk(tree) if isinstance(node, ast.Name)}
-            for _, imported in imports_of(tree):
+            for _, imported in all_imports_of(tree):
                 self.assertIn(imported, used, name)
 
     def test_names(self):
         for name, tree in parsed():
             classes = [node.name for node in tree.body if isinstance(node, ast.ClassDef)]
-            barred = (set(dir(builtins)) - {"_"}) | BARRED_NAMES | set(classes) | {imported for _, imported in imports_of(tree)}
+            barred = (set(dir(builtins)) - {"_"}) | BARRED_NAMES | set(classes)
+            barred |= {imported for _, imported in all_imports_of(tree)}
             for node in ast.walk(tree):
                 if isinstance(node, ast.FunctionDef):
                     for local in assigned_in(node):
@@ -144,7 +151,7 @@ class Language(unittest.TestCase):
 
     def test_calls(self):
         for name, tree in parsed():
-            own = set(defined_in(tree)) | {imported for _, imported in imports_of(tree)}
+            own = set(defined_in(tree)) | {imported for _, imported in all_imports_of(tree)}
             methods = {node.name for node in ast.walk(tree) if isinstance(node, ast.FunctionDef)}
             for node in ast.walk(tree):
                 if not isinstance(node, ast.Call):
@@ -208,6 +215,20 @@ class Language(unittest.TestCase):
             words = set(re.findall("[A-Za-z_]+", ast.unparse(tree)))
             self.assertEqual(words & BARRED_WORDS, set(), name)
             self.assertFalse(any(word.startswith("__") and word != "__init__" for word in words), name)
+
+    def test_methods_are_not_views(self):
+        for name, tree in parsed():
+            for node in ast.walk(tree):
+                if isinstance(node, ast.FunctionDef):
+                    self.assertNotIn(node.name, ("items", "keys", "values"), name)
+
+    def test_library_is_only_called(self):
+        for name, tree in parsed():
+            library = [imported for module, imported in all_imports_of(tree) if (module, imported) in LIBRARY]
+            called = {id(node.func) for node in ast.walk(tree) if isinstance(node, ast.Call)}
+            for node in ast.walk(tree):
+                if isinstance(node, ast.Name) and node.id in library:
+                    self.assertIn(id(node), called, (name, node.lineno))
 
     def test_no_method_is_an_attribute(self):
         methods, attributes = set(), set()
