@@ -557,3 +557,156 @@ def check_too_many(case, limit, function, *arguments):
     told = error_of(function, *arguments)
     case.assertIs(type(told), TooMany, (function.__name__, repr(told)))
     case.assertEqual(told.limit, limit)
+
+
+# LR(1), but not LALR: A and B are told apart by what is ahead of them alone.
+APART = (
+    ("a", "b", "c", "d", "e"),
+    "S",
+    (
+        ("S", ("a", "A", "d")), ("S", ("b", "B", "d")), ("S", ("a", "B", "e")), ("S", ("b", "A", "e")), ("A", ("c",)),
+        ("B", ("c",)),
+    ),
+)
+# Three canonical states have one core; two pairs of them can be joined, but not all three.
+THREE = (
+    ("a", "b", "c", "d", "e", "f", "g", "h"),
+    "S",
+    (
+        ("S", ("a", "A", "d")), ("S", ("b", "B", "d")), ("S", ("a", "B", "e")), ("S", ("b", "A", "e")),
+        ("S", ("f", "A", "g")), ("S", ("f", "B", "h")), ("A", ("c",)), ("B", ("c",)),
+    ),
+)
+# Ambiguous: LR(1) for no k.
+PLUS = (
+    ("left", "num", "plus", "right", "times"),
+    "E",
+    (
+        ("E", ("E", "plus", "E")), ("E", ("E", "times", "E")), ("E", ("left", "E", "right")), ("E", ("num",)),
+    ),
+)
+SORTS = ("slr", "lalr", "lr1", "joined")
+
+
+def plain_core(state):
+    return tuple(sorted({(rule, place) for rule, place, _ in state}))
+
+
+def whole_of(grammar, items):
+    return [item for item in items if behind_item(grammar, item) == ()]
+
+
+def plain_deeds(grammar, states, ways, number, token):
+    """By the words of [32]: the deeds of a state, with lots, for a token."""
+    found = {rule for rule, place, one in states[number] if one == token and behind_item(grammar, (rule, place)) == ()}
+    if any(symbol == token for symbol, _ in ways[number]):
+        found.add("way")
+    return found
+
+
+def plain_clash(grammar, states, ways, one, other):
+    """By the words of [32]: whether two states clash anew."""
+    for token in grammar[0] + (None,):
+        deeds = plain_deeds(grammar, states, ways, one, token)
+        others = plain_deeds(grammar, states, ways, other, token)
+        for first in deeds | others:
+            for second in deeds | others:
+                if first != second and not {first, second} <= deeds and not {first, second} <= others:
+                    return True
+    return False
+
+
+def is_plain_joining(grammar, states, ways, value):
+    """By the words of [32]: whether a tuple of tuples of integers is a joining."""
+    if sorted(number for row in value for number in row) != list(range(len(states))):
+        return False
+    if list(value) != sorted(value) or not all(row and list(row) == sorted(row) for row in value):
+        return False
+    home = {number: place for place, row in enumerate(value) for number in row}
+    for row in value:
+        for one in row:
+            for other in row:
+                if plain_core(states[one]) != plain_core(states[other]):
+                    return False
+                for symbol, target in ways[one]:
+                    if home[dict(ways[other])[symbol]] != home[target]:
+                        return False
+                if one < other and plain_clash(grammar, states, ways, one, other):
+                    return False
+    return True
+
+
+def partitions(values):
+    """All ways to put some values into classes."""
+    if not values:
+        return [[]]
+    found = []
+    for rows in partitions(values[1:]):
+        found.append([[values[0]]] + rows)
+        for at in range(len(rows)):
+            found.append(rows[:at] + [[values[0]] + rows[at]] + rows[at + 1:])
+    return found
+
+
+def all_classes(groups):
+    """All tuples of classes that put together values of one group alone."""
+    found = [[]]
+    for group in groups:
+        found = [rows + more for rows in found for more in partitions(list(group))]
+    return [tuple(sorted(tuple(sorted(row)) for row in rows)) for rows in found]
+
+
+def groups_by_core(states):
+    groups = {}
+    for number, state in enumerate(states):
+        groups.setdefault(plain_core(state), []).append(number)
+    return list(groups.values())
+
+
+def all_trees(grammar, most):
+    """For each symbol the list of its trees of at most so many items."""
+    trees = {name: {(name,)} for name in grammar[0]}
+    trees.update({left: set() for left, _ in grammar[2]})
+    changed = True
+    while changed:
+        changed = False
+        for rule, (left, right) in enumerate(grammar[2]):
+            rows = {(rule,)}
+            for symbol in right:
+                rows = {row + tree for row in rows for tree in trees[symbol] if len(row) + len(tree) <= most}
+            if not rows <= trees[left]:
+                trees[left] |= rows
+                changed = True
+    return trees
+
+
+def plain_moments(grammar, tree):
+    """By the words of [34]: the moments of a tree, from the numbers at which its parts are finished."""
+    nodes = []
+    deeds = []
+
+    def work(at, parent):
+        number = len(nodes)
+        nodes.append([tree[at], parent, None])
+        end = at + 1
+        if type(tree[at]) is int:
+            for _ in grammar[2][tree[at]][1]:
+                end = work(end, number)
+            deeds.append(("reduce", tree[at]))
+        else:
+            deeds.append(("shift",))
+        nodes[number][2] = len(deeds)
+        return end
+
+    work(0, None)
+    deeds.append(("accept",))
+    moments = []
+    for number, deed in enumerate(deeds):
+        done = [node[2] <= number for node in nodes]
+        context = tuple(
+            grammar[2][item][0] if type(item) is int else item
+            for at, (item, parent, _) in enumerate(nodes) if done[at] and (parent is None or not done[parent])
+        )
+        ahead = [item for at, (item, _, _) in enumerate(nodes) if type(item) is str and not done[at]]
+        moments.append((context, ahead[0] if ahead else None, deed))
+    return moments

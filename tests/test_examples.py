@@ -4,17 +4,22 @@ import doctest
 import unittest
 
 from shiftroads.automata import least_context, spine_for, state_by, states_of, valid_items, ways_of
+from shiftroads.builds import built, built_joined
 from shiftroads.canonicals import canonical_states, canonical_ways, valid_lots
 from shiftroads.checkpapers import judge_paper, ladder_tree, opposite, paper_for
 from shiftroads.checks import left_corners, productive, reached, ringed, trimmed, useless_rules
+from shiftroads.conflicts import conflicts, level_of, settled
 from shiftroads.errors import BadGrammar
 from shiftroads.firsts import empty_nonterminals, first_terminals, is_sentence
 from shiftroads.follows import follow_lot
 from shiftroads.grammars import is_grammar, nonterminals_of
 from shiftroads.grammartexts import print_grammar, read_grammar
 from shiftroads.items import closed, context_by, is_spine, items_of, moved
+from shiftroads.joinings import clashes_anew, far_joining, full_joining, is_joining
 from shiftroads.lexers import Lexer
+from shiftroads.lookaheads import lalr_lots, slr_lots
 from shiftroads.machines import least_machine, word_machine
+from shiftroads.moments import deeds_of, moment_of, parting
 from shiftroads.regexes import read_regex, regex_ends
 from shiftroads.sugar import plain_grammar, sweet_tree
 from shiftroads.trees import is_open_tree, is_tree, leaves_of, parts_of
@@ -84,6 +89,26 @@ EXAMPLES = r'''
 
     >>> [len(canonical_states(FL)), len(canonical_states(FC)), canonical_ways(FC)[0], valid_lots(FC, ("up", "word", "word")), valid_lots(FC, ("word",))]
     [19, 19, (('S', 1), ('down', 2), ('up', 3)), ((6, 2, ('yes',)), (7, 2, ('go',))), ()]
+
+    >>> [[pair for state in slr_lots(FL) for pair in state if pair[0] == 3], [pair for state in lalr_lots(FL) for pair in state if pair[0] == 3]]
+    [[(3, ('dash', 'shut', None)), (3, ('dash', 'shut', None))], [(3, ('dash', 'shut', None)), (3, ('shut',))]]
+
+    >>> [clashes_anew(FL), clashes_anew(FC), len(far_joining(FL)), len(far_joining(FC)), is_joining(FC, full_joining(FC))]
+    [False, True, 13, 19, False]
+
+    >>> FB = built(FC, "lr1")
+    >>> [len(built(FL, "lalr")[0]), FB[0][14], FB[1][14], FB[2][14], built_joined(FC, far_joining(FC)) == FB]
+    [13, ((6, 2), (7, 2)), (), ((6, ('go',)), (7, ('yes',))), True]
+
+    >>> GG = (("u", "v"), "D", (("D", ("D", "v")), ("D", ("v", "D")), ("D", ("u",))))
+    >>> GL, GR = (0, 1, "v", 2, "u", "v"), (1, "v", 0, 2, "u", "v")
+    >>> [deeds_of(GG, (2, "u")), moment_of(GG, GL, 3), moment_of(GG, GR, 3)[2], parting(GG, GL, GR)]
+    [(('shift',), ('reduce', 2), ('accept',)), (('v', 'D'), 'v', ('reduce', 1)), ('shift',), 3]
+
+    >>> GM = built(GG, "lalr")
+    >>> GP = ((("left", ("v",)),), ())
+    >>> [[c[1:] for c in conflicts(GG, GM)], [c[1:] for c in settled(GG, GM, GP)], level_of(GG, GP, 2)]
+    [[('v', (('reduce', 1), ('shift',)))], [('v', (('reduce', 1),))], None]
 '''
 
 
@@ -93,7 +118,7 @@ class Examples(unittest.TestCase):
         report = []
         result = doctest.DocTestRunner(verbose=False).run(test, out=report.append)
         self.assertEqual(result.failed, 0, "".join(report))
-        self.assertEqual(result.attempted, 30)
+        self.assertEqual(result.attempted, 40)
 
     def test_refused_text(self):
         with self.assertRaises(BadGrammar) as caught:
