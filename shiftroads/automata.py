@@ -2,7 +2,7 @@
 
 from shiftroads.errors import InvalidNumber, TooMany
 from shiftroads.grammars import check_grammar, check_symbols
-from shiftroads.items import advanced, check_item, closed_items, right_of
+from shiftroads.items import advanced, check_item, closed_items, symbol_behind
 from shiftroads.values import is_index
 
 MOST_STATES = 400
@@ -117,16 +117,16 @@ def comings_along(grammar, context):
     comings = {waiting[0]: (None, (-1, 0))}
     while waiting:
         node = waiting.pop()
-        for item, behind in steps_along(grammar, context, node):
-            right = right_of(grammar, item[0])
-            if item[1] < len(right) and (behind, right[item[1]]) not in comings:
-                comings[behind, right[item[1]]] = (node, item)
-                waiting.append((behind, right[item[1]]))
+        for item, place in items_along(grammar, context, node):
+            behind = (place, symbol_behind(grammar, item))
+            if behind not in comings:
+                comings[behind] = (node, item)
+                waiting.append(behind)
     return comings
 
 
-def steps_along(grammar, context, node):
-    """Return the list of the items of a symbol's rules that go along a context from a place on.
+def items_along(grammar, context, node):
+    """Return the list of the items of a symbol's rules that go along a context from a place on, but for whole ones.
 
     Each one comes with the place in the context that is behind what is ahead of it.
     """
@@ -134,7 +134,7 @@ def steps_along(grammar, context, node):
     found = []
     for rule, (left, right) in enumerate(grammar[2]):
         if left == symbol:
-            for place in range(len(right) + 1):
+            for place in range(len(right)):
                 if right[:place] == context[begin:begin + place]:
                     found.append(((rule, place), begin + place))
     return found

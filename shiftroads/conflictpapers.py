@@ -190,12 +190,12 @@ class Search:
         self.grammar = grammar
         self.leads = leads
         self.token = token
-        self.trees = LeastTrees(grammar, token)
+        self.least = LeastTrees(grammar, token)
         self.rests = {}
         for rule, (_, right) in enumerate(grammar[2]):
             for place in range(len(right)):
                 for kind in (ANY, EMPTY, BEGUN):
-                    self.rests[rule, place, kind] = self.trees.row_cost(kind, right[place + 1:])
+                    self.rests[rule, place, kind] = self.least.row_cost(kind, right[place + 1:])
 
     def witness(self, goal, deed):
         """Return a witness of a deed whose context leads to a state, or None if there is none."""
@@ -220,7 +220,7 @@ class Search:
         """Return a witness that a tree is accepted in a state, or None if there is none."""
         if self.token is not None or state_behind(self.leads, 0, (self.grammar[1],)) != goal:
             return None
-        tree = tuple(self.trees.row_items(ANY, (self.grammar[1],)))
+        tree = tuple(self.least.row_items(ANY, (self.grammar[1],)))
         return (tree, len(tree))
 
     def steps(self, node, goal, deed):
@@ -237,7 +237,7 @@ class Search:
                     found.extend(self.steps_into(rule, place, state, told, size))
                 elif deed == SHIFT and symbol == self.token and state == goal:
                     found.append((size + 1 + self.rests[rule, place, ANY], (rule, place, ANY), END))
-                size += self.trees.sizes[symbol]
+                size += self.least.sizes[symbol]
                 state = self.leads[state].get(symbol)
             if state == goal and told and deed == ("reduce", rule):
                 found.append((size, (rule, len(right), ANY), END))
@@ -267,8 +267,8 @@ class Search:
         for rule, place, kind in steps[::-1]:
             right = self.grammar[2][rule][1]
             ahead.append(rule)
-            ahead.extend(self.trees.row_items(ANY, right[:place]))
-            behind = self.trees.row_items(kind, right[place + 1:]) + behind
+            ahead.extend(self.least.row_items(ANY, right[:place]))
+            behind = self.least.row_items(kind, right[place + 1:]) + behind
         rule, place, _ = steps[0]
         shifted = list(self.grammar[2][rule][1][place:place + 1])
         # Done are the deeds of all items ahead but those of the rules that the moment is in.

@@ -178,7 +178,7 @@ def is_lot(grammar, value):
     if not is_tuple(value, 0, len(grammar[0]) + 1):
         return False
     tokens = value[:-1] if value and value[-1] is None else value
-    return all(isinstance(token, str) and token in grammar[0] for token in tokens) and is_ascending(tokens)
+    return all(token in grammar[0] for token in tokens) and is_ascending(tokens)
 
 
 def is_precedence(grammar, value):

@@ -15,7 +15,7 @@ def slr_lots(grammar):
     found = []
     for state in states:
         rules = whole_rules(grammar, state)
-        bits = [end_bit(grammar) if rule == -1 else follows.get(grammar[2][rule][0], 0) for rule in rules]
+        bits = [end_bit(grammar) if rule == -1 else follows[grammar[2][rule][0]] for rule in rules]
         found.append(looks_of(grammar, rules, bits))
     return found
 

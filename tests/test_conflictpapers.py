@@ -9,6 +9,7 @@ from shiftroads.conflicts import conflicts
 from shiftroads.errors import InvalidConflict, InvalidDeed, InvalidGrammar, InvalidMachine, InvalidNumber, InvalidSymbols
 from shiftroads.errors import InvalidToken, Unproductive
 from shiftroads.lookaheads import lalr_lots
+from shiftroads.moments import moment_of
 from shiftroads.trees import is_tree
 from tests.makers import APART, C, EG, F, FC, FL, G, GG, LOST, PLUS, RINGS, SORTS, STARS, THREE, all_trees, behind_item, bent
 from tests.makers import check_refusals, check_steady, check_too_many, contexts_up_to, error_of, frozen, is_symbol_row, junk
@@ -134,6 +135,28 @@ class Along(unittest.TestCase):
         self.assertEqual(witness_along(EG, ("b",), "c", ("shift",)), ((0, "b", 1, "c"), 1))
         self.assertIsNone(witness_along(APART, ("a", "c"), "d", ("reduce", 5)))
         self.assertEqual(witness_along(APART, ("a", "c"), "d", ("reduce", 4)), ((0, "a", 4, "c", "d"), 2))
+
+    def test_least_rests(self):
+        # E is empty by seven items, or begins with a by three: what is behind D begins with E.
+        grammar = (
+            ("a", "b", "d"), "S",
+            (("S", ("D", "E", "A")), ("D", ("d",)), ("E", ("Z",) * 6), ("Z", ()), ("E", ("a", "b")), ("A", ("a",))),
+        )
+        told = witness_along(grammar, ("d",), "a", ("reduce", 1))
+        self.assertEqual(told, ((0, 1, "d", 4, "a", "b", 5, "a"), 1))
+        # It is empty by three items, or begins with a by six; A is least with b ahead.
+        grammar = (
+            ("a", "b", "d"), "S",
+            (
+                ("S", ("D", "E", "A")), ("D", ("d",)), ("E", ("Z",) * 2), ("Z", ()), ("E", ("a",) * 5), ("A", ("a",) * 4),
+                ("A", ("b",) * 3),
+            ),
+        )
+        told = witness_along(grammar, ("d",), "a", ("reduce", 1))
+        self.assertEqual(told, ((0, 1, "d", 2, 3, 3, 5, "a", "a", "a", "a"), 1))
+        # The later rules have lesser trees.
+        grammar = (("a", "d"), "S", (("S", ("D", "A")), ("D", ("d",)), ("A", ("a",) * 5), ("A", ("B",)), ("B", ("a", "a")), ("B", ("a",))))
+        self.assertEqual(witness_along(grammar, ("d",), "a", ("reduce", 1)), ((0, 1, "d", 3, 5, "a"), 1))
 
     def test_long_contexts(self):
         context = ("b",) * 400
@@ -335,9 +358,16 @@ class Limits(unittest.TestCase):
         grammar = (("a", "b"), "S", (("S", ("A", "S")), ("S", ("b",)), ("A", (inner[1],))) + inner[2])
         told = witness_along(grammar, ("A",), "b", ("shift",))
         self.assertEqual((len(told[0]), told[1]), (1 + 9999 + 2, 9999))
-        self.assertEqual(plain_moments(grammar, told[0])[told[1]], (("A",), "b", ("shift",)))
+        self.assertEqual(moment_of(grammar, *told), (("A",), "b", ("shift",)))
+        for inner, deed in ((sized(19996, False), ("shift",)), (sized(19995, False), ("reduce", 2))):
+            rules = (("S", ("A", "S")), ("S", ("b",)), ("A", (inner[1],))) + inner[2]
+            grammar = (("a", "b"), "S", rules)
+            context = ("A",) if deed == ("shift",) else (inner[1],)
+            told = witness_along(grammar, context, "b", deed)
+            self.assertEqual(len(told[0]), 20000 if deed == ("shift",) else 19999)
+            self.assertEqual(moment_of(grammar, *told), (context, "b", deed))
         # What is told for greater ones is not promised; it is no wrong answer, at any rate.
-        check_too_many(self, 20000, witness_along, grammar, ("A", "A"), "b", ("shift",))
+        check_too_many(self, 20000, witness_along, grammar, ("A",), "a", ("shift",))
 
 
 class Refusals(unittest.TestCase):

@@ -106,6 +106,18 @@ class Joinings(unittest.TestCase):
             self.assertIs(is_joining(EG, value), False, value)
 
 
+    def test_classes_not_ascending(self):
+        for grammar in (FL, THREE, fan(2, 1)):
+            told = far_joining(grammar)
+            turned = tuple(sorted(row[::-1] for row in told))
+            self.assertNotEqual(sorted(told), list(turned))
+            self.assertIs(is_joining(grammar, told), True)
+            self.assertIs(is_joining(grammar, turned), False)
+            self.assertIs(is_joining(grammar, told[::-1]), False)
+            self.assertIs(is_joining(grammar, ((),) + told), False)
+            self.assertIs(is_joining(grammar, tuple(row + row[:1] for row in told)), False)
+
+
 class FarJoinings(unittest.TestCase):
     def test_far(self):
         rng = random.Random(144)

@@ -1,11 +1,12 @@
 import unittest
 
 from shiftroads.automata import states_of
+from shiftroads.canonicals import valid_lots
 from shiftroads.errors import InvalidGrammar
 from shiftroads.lookaheads import lalr_lots, slr_lots
-from tests.makers import APART, C, EG, F, FC, FL, G, GG, LOST, PLUS, RINGS, STARS, THREE, check_refusals, check_steady
-from tests.makers import check_too_many, error_of, fan, flat, nothing, plain_automaton, plain_canonical, plain_core
-from tests.makers import plain_lot, random_grammars, whole_of
+from tests.makers import APART, C, EG, F, FC, FL, G, GG, LOST, PLUS, RINGS, STARS, THREE, behind_item, check_refusals
+from tests.makers import check_steady, check_too_many, contexts_up_to, error_of, fan, flat, nothing, plain_automaton
+from tests.makers import plain_canonical, plain_core, plain_lot, random_grammars, whole_of
 from tests.test_follows import plain_follows
 
 
@@ -66,6 +67,21 @@ class Lots(unittest.TestCase):
                     self.assertTrue(set(lot) <= set(wider))
                     unlike += lot != wider
         self.assertGreater(unlike, 10)
+
+    def test_lalr_by_left_contexts(self):
+        same = 0
+        for grammar in grammars(134, 40):
+            states, ways = plain_automaton(grammar)
+            found = [{} for _ in states]
+            for row, state in contexts_up_to(ways, 4)[:300]:
+                for rule, place, lot in valid_lots(grammar, row):
+                    if behind_item(grammar, (rule, place)) == ():
+                        found[state].setdefault(rule, set()).update(lot)
+            for pairs, lots in zip(lalr_lots(grammar), found):
+                for rule, lot in pairs:
+                    self.assertTrue(lots.get(rule, set()) <= set(lot))
+                    same += lots.get(rule, set()) == set(lot)
+        self.assertGreater(same, 150)
 
     def test_kinds_of_grammars(self):
         for grammar, slr, lalr in ((G, 0, 0), (EG, 0, 0), (STARS, 1, 0), (APART, 1, 1), (THREE, 1, 1), (PLUS, 1, 1), (GG, 1, 1)):
