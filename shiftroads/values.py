@@ -56,3 +56,13 @@ def is_text(value, most):
 def is_letters(value):
     """Tell whether a value is a string of ascending characters, at least one."""
     return is_text(value, len(CHARACTERS)) and value != "" and is_ascending(value)
+
+
+def bit_places(bits):
+    """Return the ascending list of the places of the ones of an integer from 0 on, written in twos."""
+    places = []
+    while bits:
+        low = bits & -bits
+        places.append(low.bit_length() - 1)
+        bits = bits ^ low
+    return places

@@ -2,7 +2,10 @@
 
 import random
 
+from shiftroads.builds import built
+from shiftroads.conflicts import settled_rows
 from shiftroads.errors import RoadError, TooMany
+from shiftroads.tables import table_of
 
 G = (("num", "plus"), "S", (("S", ("S", "plus", "N")), ("S", ("N",)), ("N", ("num",))))
 F = (("a", "b"), "S", (("S", ("A", "S", "b")), ("S", ()), ("A", ("a",)), ("A", ())))
@@ -710,3 +713,191 @@ def plain_moments(grammar, tree):
         ahead = [item for at, (item, _, _) in enumerate(nodes) if type(item) is str and not done[at]]
         moments.append((context, ahead[0] if ahead else None, deed))
     return moments
+
+
+HG = (("a", "b"), "S", (("S", ("a", "S")), ("S", ("b",))))
+HA = (
+    (("a", ("shift", 2)), ("b", ("shift", 3))), ((None, ("accept",)),), (("a", ("shift", 2)), ("b", ("shift", 3))),
+    ((None, ("reduce", 1)),), ((None, ("reduce", 0)),),
+)
+HT = (HA, ((("S", 1),), (), (("S", 4),), (), ()))
+# Lists with something between, nests, empty rules, mirrors.
+LISTS = (
+    ("close", "comma", "num", "open"),
+    "S",
+    (
+        ("S", ("open", "L", "close")), ("L", ()), ("L", ("M",)), ("M", ("V",)), ("M", ("M", "comma", "V")), ("V", ("num",)),
+        ("V", ("S",)),
+    ),
+)
+MIRROR = (("a", "b", "c"), "S", (("S", ("a", "S", "a")), ("S", ("b", "S", "b")), ("S", ("c",)), ("S", ())))
+BARE = (("a", "b"), "S", (("S", ("A", "B")), ("A", ()), ("A", ("A", "a")), ("B", ("D",)), ("D", ("E",)), ("E", ("b",)), ("E", ())))
+NONE = ((), ())
+
+
+def table_by(grammar, sort, precedence=NONE):
+    """The table of a built automaton, conflicts settled by a precedence and in order."""
+    machine = built(grammar, sort)
+    return table_of(grammar, machine[1], settled_rows(grammar, machine, precedence, True))
+
+
+def random_table(rng, grammar, most=5, chance=0.7):
+    """Any small table, put together without a plan."""
+    count = rng.randint(1, most)
+    rules = range(len(grammar[2]))
+    actions, gotos = [], []
+    for _ in range(count):
+        row = []
+        for token in grammar[0] + (None,):
+            if rng.random() < chance:
+                deeds = [("reduce", rng.choice(rules)), ("reduce", rng.choice(rules)), ("refuse",)]
+                deeds += [("accept",)] * 2 if token is None else [("shift", rng.randrange(count))] * 3
+                row.append((token, rng.choice(deeds)))
+        actions.append(tuple(row))
+        gotos.append(tuple((name, rng.randrange(count)) for name in letters_of(grammar) if rng.random() < chance))
+    return (tuple(actions), tuple(gotos))
+
+
+def with_item(row, at, value):
+    return row[:at] + (value,) + row[at + 1:]
+
+
+def turned_table(rng, grammar, table):
+    """A table that is like another one but for one entry or goto."""
+    state = rng.randrange(len(table[0]))
+    if rng.random() < 0.35:
+        row = dict(table[1][state])
+        row[rng.choice(letters_of(grammar))] = rng.randrange(len(table[0]))
+        if rng.random() < 0.3:
+            row.pop(rng.choice(list(row)))
+        return (table[0], with_item(table[1], state, tuple(sorted(row.items()))))
+    row = dict(table[0][state])
+    token = rng.choice(grammar[0] + (None,))
+    rule = rng.randrange(len(grammar[2]))
+    other = rng.choice((("reduce", rule), ("refuse",), ("accept",) if token is None else ("shift", rng.randrange(len(table[0]))), None))
+    row.pop(token, None)
+    if other is not None:
+        row[token] = other
+    told = tuple(sorted(row.items(), key=lambda pair: token_key(pair[0])))
+    return (with_item(table[0], state, told), table[1])
+
+
+def some_precedence(rng, grammar):
+    """Levels of some tokens, without marks."""
+    tokens = list(grammar[0])
+    rng.shuffle(tokens)
+    return (tuple((rng.choice(("left", "right", "none")), (token,)) for token in tokens if rng.random() < 0.7), ())
+
+
+def built_tables(seed, count):
+    """Pairs of a grammar and of a table of a built automaton of it, conflicts settled in any way."""
+    rng = random.Random(seed)
+    known = [HG, G, F, EG, FL, FC, GG, STARS, RINGS, LOST, APART, PLUS, LISTS, MIRROR, BARE]
+    found = [(grammar, table_by(grammar, sort)) for grammar in known for sort in SORTS]
+    for grammar in known + random_grammars(seed + 1, count):
+        found.append((grammar, table_by(grammar, rng.choice(SORTS), some_precedence(rng, grammar))))
+    return found
+
+
+def any_tables(seed, count):
+    """Pairs of a grammar and of a table: built ones, such with some entries turned, and any small ones."""
+    rng = random.Random(seed)
+    found = built_tables(seed + 1, count)
+    for grammar, table in list(found):
+        for _ in range(2):
+            table = turned_table(rng, grammar, table)
+            found.append((grammar, table))
+    for grammar in random_grammars(seed + 2, count):
+        found.append((grammar, random_table(rng, grammar)))
+        found.append((grammar, random_table(rng, grammar, chance=0.95)))
+    return found
+
+
+def plain_machine_run(grammar, table, row, limit=5000, with_end=True):
+    """By the words of [40]: how the machine ends over a row, its place, its states, its trees and its deeds."""
+    states, trees, place, done = [0], [], 0, []
+    actions, gotos = [dict(one) for one in table[0]], [dict(one) for one in table[1]]
+    defaults = table[2] if len(table) == 3 else [-1] * len(actions)
+    word = "on"
+    while word == "on" and (place < len(row) or with_end):
+        token = row[place] if place < len(row) else None
+        deed = actions[states[-1]].get(token, ("refuse",))
+        if token not in actions[states[-1]] and defaults[states[-1]] >= 0:
+            deed = ("reduce", defaults[states[-1]])
+        if deed[0] == "refuse" or deed[0] == "accept" and not trees:
+            word = "refused"
+        if deed[0] == "reduce":
+            left, right = grammar[2][deed[1]]
+            kept = len(trees) - len(right)
+            if kept < 0 or left not in gotos[states[kept]]:
+                word = "refused"
+        if word == "on" and len(done) == limit:
+            word = "long"
+        if word != "on":
+            break
+        done.append(deed)
+        if deed[0] == "accept":
+            word = "tree"
+        elif deed[0] == "shift":
+            states.append(deed[1])
+            trees.append((token,))
+            place += 1
+        else:
+            trees[kept:] = [(deed[1],) + tuple(trees[kept:])]
+            states[kept + 1:] = [gotos[states[kept]][left]]
+    return word, place, states, [flattened(tree) for tree in trees], done
+
+
+def flattened(tree):
+    found = []
+    waiting = [tree]
+    while waiting:
+        part = waiting.pop()
+        if type(part) is tuple:
+            waiting.extend(part[::-1])
+        else:
+            found.append(part)
+    return tuple(found)
+
+
+def plain_expected(grammar, table, row):
+    """By the words of [41]."""
+    found = []
+    for token in grammar[0]:
+        if plain_machine_run(grammar, table, row + (token,), with_end=False)[0] == "on":
+            found.append(token)
+    if plain_machine_run(grammar, table, row)[0] == "tree":
+        found.append(None)
+    return tuple(found)
+
+
+def plain_parse(grammar, table, row, read_by=None):
+    """By the words of [40] and [41]: what parse tells, or, of another table to read by, what is told by this."""
+    kind, place, _, trees, _ = plain_machine_run(grammar, read_by or table, row)
+    if kind == "tree":
+        return ("tree", trees[-1])
+    if kind == "refused":
+        return ("refused", place, plain_expected(grammar, table, row[:place]))
+    return ("long", place)
+
+
+def sentences_up_to(grammar, length):
+    return sorted(words_up_to(grammar, length)[grammar[1]])
+
+
+def rows_for(rng, grammar, count, length=7):
+    """Some sentences, rows near to them, and any rows."""
+    known = sentences_up_to(grammar, length)
+    rows = [(), (grammar[0][0],)]
+    for _ in range(count):
+        row = list(rng.choice(known)) if known and rng.random() < 0.8 else []
+        if row and rng.random() < 0.5:
+            row[rng.randrange(len(row))] = rng.choice(grammar[0])
+        if rng.random() < 0.3:
+            row.insert(rng.randint(0, len(row)), rng.choice(grammar[0]))
+        if row and rng.random() < 0.2:
+            row.pop()
+        if not known:
+            row = [rng.choice(grammar[0]) for _ in range(rng.randint(0, 5))]
+        rows.append(tuple(row))
+    return rows

@@ -20,8 +20,11 @@ from shiftroads.lexers import Lexer
 from shiftroads.lookaheads import lalr_lots, slr_lots
 from shiftroads.machines import least_machine, word_machine
 from shiftroads.moments import deeds_of, moment_of, parting
+from shiftroads.parsers import expected, parse
 from shiftroads.regexes import read_regex, regex_ends
+from shiftroads.repairs import complete, least_costs, panic, repair
 from shiftroads.sugar import plain_grammar, sweet_tree
+from shiftroads.tables import is_full, is_sound, is_table, with_defaults
 from shiftroads.trees import is_open_tree, is_tree, leaves_of, parts_of
 
 EXAMPLES = r'''
@@ -109,6 +112,26 @@ EXAMPLES = r'''
     >>> GP = ((("left", ("v",)),), ())
     >>> [[c[1:] for c in conflicts(GG, GM)], [c[1:] for c in settled(GG, GM, GP)], level_of(GG, GP, 2)]
     [[('v', (('reduce', 1), ('shift',)))], [('v', (('reduce', 1),))], None]
+
+    >>> HG = (("a", "b"), "S", (("S", ("a", "S")), ("S", ("b",))))
+    >>> HA = ((("a", ("shift", 2)), ("b", ("shift", 3))), ((None, ("accept",)),), (("a", ("shift", 2)), ("b", ("shift", 3))), ((None, ("reduce", 1)),), ((None, ("reduce", 0)),))
+    >>> HT = (HA, ((("S", 1),), (), (("S", 4),), (), ()))
+    >>> [is_table(HG, HT), is_sound(HG, HT), is_full(HG, HT), with_defaults(HG, HT)[2]]
+    [True, True, True, (-1, -1, -1, 1, 0)]
+
+    >>> [parse(HG, HT, ("a", "b")), parse(HG, HT, ("a", "b", "a")), expected(HG, HT, ("a",))]
+    [('tree', (0, 'a', 1, 'b')), ('refused', 2, (None,)), ('a', 'b')]
+
+    >>> IG = (("box", "close", "gap", "item"), "Box", (("Box", ("box", "Row", "close")), ("Row", ("Thing",)), ("Row", ("Row", "gap", "Thing")), ("Thing", ("item",)), ("Thing", ("Box",))))
+    >>> IC = ((5, 1, 5, 5), (2, 2, 2, 2), 4)
+    >>> repair(IG, IC, ("box", "item"))
+    (1, (('keep', 'box'), ('keep', 'item'), ('put', 'close')), (0, 'box', 1, 3, 'item', 'close'))
+    >>> [least_costs(IG, IC, ("gap",))[key] for key in [("Thing", 0, 0), ("Thing", 0, 1), ("Row", 1, 1)]]
+    [(5, 2), (4, 2), (5, 3)]
+    >>> [complete(IG, IC[0], ("box", "item", "close")), complete(IG, IC[0], ("box", "item"))[:2], complete(IG, IC[0], ("item",))]
+    [(0, (), (0, 'box', 1, 3, 'item', 'close')), (1, ('close',)), None]
+    >>> panic(IG, IC[0], ("gap",), ("box", "item", "item", "close", "gap", "item", "close"))[0]
+    (('keep', 'box'), ('keep', 'item'), ('leave', 'item'), ('leave', 'close'), ('keep', 'gap'), ('keep', 'item'), ('keep', 'close'))
 '''
 
 
@@ -118,7 +141,7 @@ class Examples(unittest.TestCase):
         report = []
         result = doctest.DocTestRunner(verbose=False).run(test, out=report.append)
         self.assertEqual(result.failed, 0, "".join(report))
-        self.assertEqual(result.attempted, 40)
+        self.assertEqual(result.attempted, 51)
 
     def test_refused_text(self):
         with self.assertRaises(BadGrammar) as caught:

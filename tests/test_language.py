@@ -28,7 +28,7 @@ BARRED_WORDS = set(
 )
 STATEMENTS = (
     ast.Assign, ast.AugAssign, ast.If, ast.While, ast.For, ast.Return, ast.Break, ast.Continue, ast.Pass, ast.Raise,
-    ast.Expr, ast.FunctionDef, ast.ClassDef, ast.ImportFrom,
+    ast.Expr, ast.FunctionDef, ast.ClassDef, ast.ImportFrom, ast.Delete,
 )
 LIBRARY = (("heapq", "heappop"), ("heapq", "heappush"))
 TAKES_GENERATOR = ("list", "tuple", "dict", "sorted", "sum", "min", "max", "any", "all")
@@ -98,7 +98,7 @@ class Language(unittest.TestCase):
             for node in tree.body[1:]:
                 self.assertIsInstance(node, (ast.ImportFrom, ast.FunctionDef, ast.ClassDef, ast.Assign), name)
                 if isinstance(node, ast.Assign):
-                    ast.literal_eval(node.value)
+                    eval(compile(ast.Expression(node.value), name, "eval"), {"__builtins__": {}})
             names = defined_in(tree) + [imported for _, imported in all_imports_of(tree)]
             self.assertEqual(len(set(names)), len(names), name)
 
@@ -150,13 +150,20 @@ class Language(unittest.TestCase):
                     self.assertIn(ast.unparse(node.comparators[0]), ("None", "True", "False"), name)
 
     def test_calls(self):
+        methods = set()
+        for _, tree in parsed():
+            for node in ast.walk(tree):
+                if isinstance(node, ast.ClassDef):
+                    methods |= {part.name for part in node.body if isinstance(part, ast.FunctionDef)}
         for name, tree in parsed():
             own = set(defined_in(tree)) | {imported for _, imported in all_imports_of(tree)}
-            methods = {node.name for node in ast.walk(tree) if isinstance(node, ast.FunctionDef)}
             for node in ast.walk(tree):
                 if not isinstance(node, ast.Call):
                     continue
-                self.assertEqual(node.keywords, [], (name, node.lineno))
+                if node.keywords:
+                    self.assertEqual([word.arg for word in node.keywords], ["default"], (name, node.lineno))
+                    self.assertIn(ast.unparse(node.func), ("min", "max"), (name, node.lineno))
+                    self.assertEqual(len(node.args), 1, (name, node.lineno))
                 if isinstance(node.func, ast.Name):
                     self.assertIn(node.func.id, own | BUILTINS, (name, node.lineno))
                 else:
