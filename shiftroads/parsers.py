@@ -40,7 +40,7 @@ def answer_of(grammar, table, row, run):
 def told_answer(grammar, table, row, run, word):
     """Return what is told of a row over which a run has ended with a word."""
     if word == "accept":
-        return ("tree", run.tree(len(run.firsts) - 1))
+        return ("tree", run.stack_tree(len(run.firsts) - 1))
     if word == "refused":
         return ("refused", run.place, expected_behind(grammar, table, row[:run.place]))
     return ("long", run.place)
@@ -74,7 +74,7 @@ class Parser:
 
     def trees(self):
         """Return the list of the trees."""
-        return [self.run.tree(number) for number in range(len(self.run.firsts))]
+        return [self.run.stack_tree(number) for number in range(len(self.run.firsts))]
 
     def feed(self, token):
         """Do all deeds that a token causes, and return "on", "tree", "refused" or "long"."""

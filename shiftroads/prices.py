@@ -49,7 +49,7 @@ class LeastPrices:
         self.prices = {name: terminal_prices[name] for name in terminal_prices}
         for left, _ in rules:
             self.prices[left] = wanting_prices(length, WANTING)
-        self.choices = {}
+        self.ready = {}
         for end in range(length + 1):
             rests = [[[WANTING] * (end + 1) for _ in right] + [[WANTING] * end + [0]] for _, right in rules]
             for begin in range(end, -1, -1):
@@ -89,9 +89,9 @@ class LeastPrices:
     def choice(self, nonterminal, begin, end):
         """Return a rule, and the ends of the parts of its symbols, that give a nonterminal its price for a part."""
         key = (nonterminal, begin, end)
-        if key not in self.choices:
-            self.choices[key] = self.first_choice(nonterminal, begin, end)
-        return self.choices[key]
+        if key not in self.ready:
+            self.ready[key] = self.first_choice(nonterminal, begin, end)
+        return self.ready[key]
 
     def first_choice(self, nonterminal, begin, end):
         """Find the first rule, with the ends, that gives a nonterminal its price for a part."""

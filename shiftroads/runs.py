@@ -63,6 +63,15 @@ class Run:
         self.firsts.append(first)
         self.states.append(self.gotos[self.states[-1]][left])
 
+    def take_over(self, entries, change):
+        """Do all deeds of a piece at once: entries of another log, the places being changed by a number."""
+        offset = len(self.log) - entries[-1][1]
+        self.firsts.append(len(self.log))
+        for item, first, base, begin, end in entries:
+            self.log.append((item, first + offset, base, begin + change, end + change))
+        self.states.append(self.gotos[self.states[-1]][self.rules[entries[-1][0]][0]])
+        self.place = entries[-1][4] + change
+
     def drive(self, token):
         """Do all deeds that a token causes, and return the word of the last one, or "refused" or "long"."""
         word = self.step(token)
@@ -77,7 +86,7 @@ class Run:
             word = self.drive(row[self.place] if self.place < len(row) else None)
         return word
 
-    def tree(self, number):
+    def stack_tree(self, number):
         """Return the tree on the stack with a number."""
         end = self.firsts[number + 1] if number + 1 < len(self.firsts) else len(self.log)
         parts = []

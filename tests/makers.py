@@ -901,3 +901,218 @@ def rows_for(rng, grammar, count, length=7):
             row = [rng.choice(grammar[0]) for _ in range(rng.randint(0, 5))]
         rows.append(tuple(row))
     return rows
+
+
+J = (("a",), "S", (("S", ("S", "S")), ("S", ("a",))))
+
+
+def plain_spans(grammar, row):
+    """For each symbol the set of the pairs (begin, end) of the parts of a row that it derives, by turns over all rules."""
+    spans = {token: {(at, at + 1) for at, one in enumerate(row) if one == token} for token in grammar[0]}
+    spans.update({left: set() for left, _ in grammar[2]})
+    before = None
+    while before != spans:
+        before = {symbol: set(spans[symbol]) for symbol in spans}
+        for left, right in grammar[2]:
+            spans[left] |= row_spans(spans, right, len(row))
+    return spans
+
+
+def row_spans(spans, symbols, count):
+    """The pairs (begin, end) of the parts that a row of symbols derives."""
+    found = {(at, at) for at in range(count + 1)}
+    for symbol in symbols:
+        found = {(begin, end) for begin, middle in found for other, end in spans[symbol] if other == middle}
+    return found
+
+
+def plain_columns(grammar, row):
+    """By the words of [54]: the columns of a chart, from spans and from open trees."""
+    spans = plain_spans(grammar, row)
+    count = len(row)
+    open_at = {(grammar[1], 0)}
+    before = None
+    while before != open_at:
+        before = set(open_at)
+        for name, at in before:
+            for left, right in grammar[2]:
+                if left == name:
+                    for place, symbol in enumerate(right):
+                        if symbol not in grammar[0]:
+                            ahead = row_spans(spans, right[:place], count)
+                            open_at |= {(symbol, end) for begin, end in ahead if begin == at}
+    columns = [set() for _ in range(count + 1)]
+    for rule in range(-1, len(grammar[2])):
+        right = right_side(grammar, rule)
+        for place in range(len(right) + 1):
+            for begin, end in row_spans(spans, right[:place], count):
+                if begin == 0 if rule == -1 else (grammar[2][rule][0], begin) in open_at:
+                    columns[end].add((rule, place, begin))
+    return tuple(tuple(sorted(column)) for column in columns)
+
+
+def small_rows(rng, grammar, count, most=5):
+    """Rows of at most a length: the empty one, sentences, near ones and any."""
+    return [row[:most] for row in rows_for(rng, grammar, count, most)]
+
+
+def prefixes_up_to(grammar, length):
+    """All rows of at most a length with which some sentence begins, by growing the sets of all nonterminals."""
+    words = words_up_to(grammar, length)
+    fine = trees_by_height(grammar, grammar[0]) | set(grammar[0])
+    begins = {left: {()} if left in fine else set() for left, _ in grammar[2]}
+    before = None
+    while before != begins:
+        before = {left: set(begins[left]) for left in begins}
+        for left, right in grammar[2]:
+            if all(symbol in fine for symbol in right):
+                ahead = {()}
+                for symbol in right:
+                    more = before.get(symbol, {(), (symbol,)})
+                    begins[left] |= {row + end for row in ahead for end in more if len(row + end) <= length}
+                    ends = words.get(symbol, {(symbol,)})
+                    ahead = {row + end for row in ahead for end in ends if len(row + end) <= length}
+    return begins[grammar[1]]
+
+
+KG = G
+KW = (0, 1, 2, "num", "plus", 2, "num")
+KS = (
+    ((("v",), ()), (("v",), ("d",))),
+    (
+        (((0, "v"), ("add", ("of", 1, "v"), ("of", 3, "v"))), ((1, "d"), ("add", ("of", 0, "d"), ("num", 1)))),
+        (((0, "v"), ("add", ("of", 1, "v"), ("of", 0, "d"))),), (((0, "v"), ("of", 1, "worth")),),
+    ),
+)
+WORDS = {"add": 2, "sub": 2, "mul": 2, "less": 2, "if": 3}
+TOP = 4294967295
+
+
+def plain_targets(names, rule):
+    left, right = rule
+    found = [(0, up) for up in names[left][0]]
+    for place, symbol in enumerate(right, 1):
+        found += [(place, down) for down in names.get(symbol, ((), ()))[1]]
+    return sorted(found)
+
+
+def plain_sources(names, rule):
+    left, right = rule
+    found = [(0, down) for down in names[left][1]]
+    for place, symbol in enumerate(right, 1):
+        found += [(place, name) for name in (names[symbol][0] if symbol in names else ("worth",))]
+    return found
+
+
+def random_expression(rng, sources, depth, chance=0.5):
+    if depth > 1 and rng.random() < chance:
+        word = rng.choice(sorted(WORDS))
+        return (word,) + tuple(random_expression(rng, sources, depth - 1, chance) for _ in range(WORDS[word]))
+    if sources and rng.random() < 0.75:
+        return ("of",) + rng.choice(sources)
+    return ("num", rng.choice((0, 1, 2, TOP, rng.randint(0, TOP))))
+
+
+def random_scheme(rng, grammar, most=2, one_walk=False):
+    """A scheme of a grammar; one of one walk, if asked for, or any."""
+    pairs = []
+    for _ in letters_of(grammar):
+        words = rng.sample(("v", "d", "up", "down", "w1", "of", "num", "x" * 20), 2 * most)
+        pairs.append((tuple(words[:rng.randint(0, most)]), tuple(words[most:most + rng.randint(0, most)])))
+    names = dict(zip(letters_of(grammar), pairs))
+    rows = []
+    for rule in grammar[2]:
+        row = []
+        for target in plain_targets(names, rule):
+            sources = plain_sources(names, rule)
+            if one_walk and target[0]:
+                sources = [source for source in sources if source[0] < target[0]]
+            row.append((target, random_expression(rng, sources, rng.choice((1, 1, 2, 4)))))
+        rows.append(tuple(row))
+    return (tuple(pairs), tuple(rows))
+
+
+def expression_reads(expression):
+    if expression[0] == "of":
+        return [expression[1:]]
+    return [pair for part in expression[1:] if type(part) is tuple for pair in expression_reads(part)]
+
+
+def plain_instances(grammar, scheme, tree):
+    """For each instance of a tree but the downs of the first node: its expression, and what its places are."""
+    names = dict(zip(letters_of(grammar), scheme[0]))
+    found = {}
+    nodes = {}
+
+    def walk(at):
+        rule = tree[at]
+        ends, here = [], [at]
+        end = at + 1
+        for symbol in grammar[2][rule][1]:
+            here.append(end)
+            end = end + 1 if symbol in grammar[0] else walk(end)
+        for (place, name), expression in scheme[1][rule]:
+            found[here[place], name] = (expression, here)
+        nodes[at] = grammar[2][rule][0]
+        return end
+
+    walk(0)
+    return found, nodes, names
+
+
+def plain_reads(grammar, scheme, tree):
+    """For each instance the set of the instances that it reads (those of leaves left out)."""
+    found, nodes, names = plain_instances(grammar, scheme, tree)
+    reads = {(at, name): set() for at in nodes for name in names[nodes[at]][0] + names[nodes[at]][1]}
+    for instance, (expression, here) in found.items():
+        reads[instance] = {(here[place], name) for place, name in expression_reads(expression) if here[place] in nodes}
+    return reads
+
+
+def closed_reads(reads):
+    """What each instance reads, perhaps through others."""
+    closed = {one: set(reads[one]) for one in reads}
+    for middle in closed:
+        for one in closed:
+            if middle in closed[one]:
+                closed[one] |= closed[middle]
+    return closed
+
+
+def plain_worths(grammar, scheme, tree, leaves, downs):
+    """By the words of [61] and [62]: the worths of all items, by turns over all instances, or None if some stay unknown."""
+    found, nodes, names = plain_instances(grammar, scheme, tree)
+    known = {}
+    indices = [at for at, item in enumerate(tree) if type(item) is str]
+    known.update({(at, "worth"): worth for at, worth in zip(indices, leaves)})
+    known.update({(0, name): worth for name, worth in zip(names[nodes[0]][1], downs)})
+
+    def worth(expression, here):
+        word = expression[0]
+        if word == "num":
+            return expression[1]
+        if word == "of":
+            return known[here[expression[1]], expression[2]]
+        parts = [worth(part, here) for part in expression[1:]]
+        if word == "if":
+            return parts[1] if parts[0] else parts[2]
+        one, other = parts
+        return {"add": one + other, "sub": one - other, "mul": one * other, "less": int(one < other)}[word] % 2 ** 32
+
+    changed = True
+    while changed:
+        changed = False
+        for instance, (expression, here) in found.items():
+            if instance not in known and all((here[place], name) in known for place, name in expression_reads(expression)):
+                known[instance] = worth(expression, here)
+                changed = True
+    if not all(instance in known for instance in found):
+        return None
+    told = []
+    for at, item in enumerate(tree):
+        if type(item) is str:
+            told.append(known[at, "worth"])
+        else:
+            ups, rest = names[nodes[at]]
+            told.append((tuple(known[at, name] for name in rest), tuple(known[at, name] for name in ups)))
+    return tuple(told)

@@ -3,25 +3,31 @@
 import doctest
 import unittest
 
+from shiftroads.attributes import is_one_walk, is_scheme, worths_of
 from shiftroads.automata import least_context, spine_for, state_by, states_of, valid_items, ways_of
 from shiftroads.builds import built, built_joined
 from shiftroads.canonicals import canonical_states, canonical_ways, valid_lots
+from shiftroads.charts import chart, dead_end, takes
 from shiftroads.checkpapers import judge_paper, ladder_tree, opposite, paper_for
 from shiftroads.checks import left_corners, productive, reached, ringed, trimmed, useless_rules
 from shiftroads.conflicts import conflicts, level_of, settled
+from shiftroads.edits import Edited
 from shiftroads.errors import BadGrammar
 from shiftroads.firsts import empty_nonterminals, first_terminals, is_sentence
 from shiftroads.follows import follow_lot
+from shiftroads.forests import forest, some_trees, tree_at, tree_count, tree_number
 from shiftroads.grammars import is_grammar, nonterminals_of
 from shiftroads.grammartexts import print_grammar, read_grammar
 from shiftroads.items import closed, context_by, is_spine, items_of, moved
 from shiftroads.joinings import clashes_anew, far_joining, full_joining, is_joining
+from shiftroads.languages import Language
 from shiftroads.lexers import Lexer
 from shiftroads.lookaheads import lalr_lots, slr_lots
 from shiftroads.machines import least_machine, word_machine
 from shiftroads.moments import deeds_of, moment_of, parting
 from shiftroads.parsers import expected, parse
 from shiftroads.regexes import read_regex, regex_ends
+from shiftroads.relations import relations, ring_tree
 from shiftroads.repairs import complete, least_costs, panic, repair
 from shiftroads.sugar import plain_grammar, sweet_tree
 from shiftroads.tables import is_full, is_sound, is_table, with_defaults
@@ -132,6 +138,36 @@ EXAMPLES = r'''
     [(0, (), (0, 'box', 1, 3, 'item', 'close')), (1, ('close',)), None]
     >>> panic(IG, IC[0], ("gap",), ("box", "item", "item", "close", "gap", "item", "close"))[0]
     (('keep', 'box'), ('keep', 'item'), ('leave', 'item'), ('leave', 'close'), ('keep', 'gap'), ('keep', 'item'), ('keep', 'close'))
+
+    >>> J = (("a",), "S", (("S", ("S", "S")), ("S", ("a",))))
+    >>> [chart(J, ("a",))[0], takes(J, ("a", "a")), takes(J, ()), dead_end(J, ()), dead_end(J, ("a",))]
+    [((-1, 0, 0), (0, 0, 0), (1, 0, 0)), True, False, 0, None]
+
+    >>> [forest(J, ("a", "a")), tree_count(J, ("a", "a", "a")), tree_at(J, ("a", "a", "a"), 0)]
+    [((('S', 0, 1), ((1, (1,)),)), (('S', 0, 2), ((0, (1, 2)),)), (('S', 1, 2), ((1, (2,)),))), 2, (0, 1, 'a', 0, 1, 'a', 1, 'a')]
+    >>> [tree_number(J, ("a", "a", "a"), (0, 0, 1, "a", 1, "a", 1, "a")), some_trees(J, ("a",)), tree_count((("a",), "S", (("S", ("S",)), ("S", ("a",)))), ("a",))]
+    [1, ((1, 'a'), None), None]
+
+    >>> KG = (("num", "plus"), "S", (("S", ("S", "plus", "N")), ("S", ("N",)), ("N", ("num",))))
+    >>> KW = (0, 1, 2, "num", "plus", 2, "num")
+    >>> KS = (((("v",), ()), (("v",), ("d",))), ((((0, "v"), ("add", ("of", 1, "v"), ("of", 3, "v"))), ((1, "d"), ("add", ("of", 0, "d"), ("num", 1)))), (((0, "v"), ("add", ("of", 1, "v"), ("of", 0, "d"))),), (((0, "v"), ("of", 1, "worth")),)))
+    >>> [is_scheme(KG, KS), is_one_walk(KG, KS), worths_of(KG, KS, "S", KW, (5, 0, 7), (10,))]
+    [True, True, ('worths', (((10,), (23,)), ((11,), (16,)), ((), (5,)), 5, 0, ((), (7,)), 7))]
+
+    >>> KR = (KS[0], (KS[1][0], (((0, "v"), ("of", 1, "v")),), (((0, "v"), ("num", 3)),)))
+    >>> [relations(KG, KS), relations(KG, KR), ring_tree(KG, KS)]
+    [(((),), ((('d', 'v'),),)), (((),), ((),)), None]
+
+    >>> LE = Edited(HG, HT, ("a", "a", "b"))
+    >>> [LE.answer, LE.work, LE.replace(0, 1, ()), LE.work, LE.taken]
+    [('tree', (0, 'a', 0, 'a', 1, 'b')), 7, ('tree', (0, 'a', 1, 'b')), 3, ((1, 2, 2),)]
+    >>> [LE.replace(0, 0, ("a",)), LE.work, LE.taken, LE.row]
+    [('tree', (0, 'a', 0, 'a', 1, 'b')), 5, ((2, 3, 2),), ('a', 'a', 'b')]
+
+    >>> MT = "tokens num, plus; left plus; start S; S = S plus S | num;"
+    >>> ML = Language(MT, (("num", "[0-9]+"), ("plus", "\\+"), (None, " ")), "lalr", False)
+    >>> [ML.read("1 + 22"), ML.read("1 + + 2"), ML.read("1 +"), ML.read("1 - 2"), ML.read(""), len(ML.clashes)]
+    [('tree', (0, 1, 'num', 'plus', 1, 'num')), ('refused', 4, ('num',)), ('refused', 3, ('num',)), ('unread', 2, 2), ('refused', 0, ('num',)), 1]
 '''
 
 
@@ -141,7 +177,7 @@ class Examples(unittest.TestCase):
         report = []
         result = doctest.DocTestRunner(verbose=False).run(test, out=report.append)
         self.assertEqual(result.failed, 0, "".join(report))
-        self.assertEqual(result.attempted, 51)
+        self.assertEqual(result.attempted, 67)
 
     def test_refused_text(self):
         with self.assertRaises(BadGrammar) as caught:

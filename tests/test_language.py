@@ -28,7 +28,7 @@ BARRED_WORDS = set(
 )
 STATEMENTS = (
     ast.Assign, ast.AugAssign, ast.If, ast.While, ast.For, ast.Return, ast.Break, ast.Continue, ast.Pass, ast.Raise,
-    ast.Expr, ast.FunctionDef, ast.ClassDef, ast.ImportFrom, ast.Delete,
+    ast.Expr, ast.FunctionDef, ast.ClassDef, ast.ImportFrom, ast.Delete, ast.Try,
 )
 LIBRARY = (("heapq", "heappop"), ("heapq", "heappush"))
 TAKES_GENERATOR = ("list", "tuple", "dict", "sorted", "sum", "min", "max", "any", "all")
