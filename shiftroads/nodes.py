@@ -14,7 +14,6 @@ class Forest:
 
     def __init__(self, grammar, row):
         self.rules = grammar[2]
-        self.row = row
         self.root = (grammar[1], 0, len(row))
         self.packings = {}
         self.chart = Columns(grammar)
@@ -53,7 +52,9 @@ class Forest:
                 if len(found) > most:
                     raise TooMany(MOST_PACKINGS)
                 continue
-            for origin in self.origins(right[place - 1], at):
+            # An item behind a terminal has come there by just this token.
+            origins = [at - 1] if right[place - 1][0].islower() else self.origins(right[place - 1], at)
+            for origin in origins:
                 if self.stands(rule, place - 1, begin, origin):
                     waiting.append((place - 1, origin, (at,) + cuts))
 
@@ -61,11 +62,9 @@ class Forest:
         """Tell whether an item stands in a column of the chart."""
         return (self.chart.columns[column].get((rule, place), 0) >> origin) & 1 == 1
 
-    def origins(self, symbol, end):
-        """Return the list of the places from which on a symbol derives the tokens up to an end."""
-        if symbol[0].isupper():
-            return bit_places(self.chart.whole[end].get(symbol, 0))
-        return [end - 1] if end > 0 and self.row[end - 1] == symbol else []
+    def origins(self, nonterminal, end):
+        """Return the list of the places from which on a nonterminal derives the tokens up to an end."""
+        return bit_places(self.chart.whole[end].get(nonterminal, 0))
 
     def parts_in(self, node, packing):
         """Return the list of the parts (symbol, begin, end) of a packing of a node."""

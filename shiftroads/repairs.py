@@ -45,8 +45,9 @@ def is_bound(grammar, costs, row, value):
     empties = leaving_prices(grammar, costs, row, bits)
     for left, right in grammar[2]:
         for end in range(len(row) + 1):
-            for begin, price in enumerate(rule_prices(prices, empties, right, end, wanting)[:end + 1]):
-                if price < wanting and price < prices[left][begin][end]:
+            for begin, price in enumerate(rule_prices(prices, empties, right, end, wanting)):
+                # Prices that are wanting are not less than what is in the table.
+                if price < prices[left][begin][end]:
                     return False
     return True
 

@@ -273,6 +273,14 @@ class LeastTrees(unittest.TestCase):
         grammar = (grammar[0], "S", (("S", ()), ("S", ("N0",))) + grammar[2])
         self.assertEqual([len(tree) for tree in some_trees(grammar, ())], [1, 1 + sum(8 ** at for at in range(5))])
         for size in (19999, 20000, 20001):
+            # The other one of two trees.
+            grammar = just_long(size - 1)
+            grammar = (grammar[0], "S", (("S", ()), ("S", ("T0",))) + grammar[2])
+            self.assertEqual(tree_count(grammar, ()), 2)
+            if size > 20000:
+                check_too_many(self, 20000, some_trees, grammar, ())
+            else:
+                self.assertEqual([len(tree) for tree in some_trees(grammar, ())], [1, size])
             grammar = just_long(size)
             self.assertEqual(tree_count(grammar, ()), 1)
             if size > 20000:

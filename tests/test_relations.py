@@ -217,6 +217,31 @@ class Limits(unittest.TestCase):
             self.assertEqual(relations(grammar, scheme)[-1], ())
 
 
+    def test_ring_trees_of_two_thousand(self):
+        for size in (1998, 1999, 2000):
+            # A list of tokens of one length, behind which the ring comes.
+            chain = [("N0", ("a",) * 8)]
+            sizes = [9]
+            while sizes[-1] * 6 + 20 < size - 3:
+                chain.append((f"N{len(chain)}", (f"N{len(chain) - 1}",) * 6))
+                sizes.append(sizes[-1] * 6 + 1)
+            left = size - 3
+            rules = []
+            while left > 7:
+                at = max(at for at in range(len(sizes)) if sizes[at] < left - 1) if left > 11 else None
+                row = (f"N{at}",) if at is not None else ("a",) * (left - 3)
+                rules.append((f"T{len(rules)}", row + (f"T{len(rules) + 1}",)))
+                left -= 1 + (sizes[at] if at is not None else left - 3)
+            rules.append((f"T{len(rules)}", ("a",) * (left - 1)))
+            grammar = (("a",), "S", (("S", ("A", "T0")), ("A", ("a",))) + tuple(chain + rules))
+            names = {"A": (("v",), ("d",))}
+            pairs = tuple(names.get(name, ((), ())) for name in letters_of(grammar))
+            scheme = (pairs, ((((1, "d"), ("of", 1, "v")),), (((0, "v"), ("of", 0, "d")),)) + ((),) * len(chain + rules))
+            self.assertTrue(is_scheme(grammar, scheme))
+            name, tree = ring_tree(grammar, scheme)
+            self.assertEqual((name, len(tree)), ("S", size))
+
+
 class Refusals(unittest.TestCase):
     def test_kinds(self):
         for function in (relations, ring_tree):

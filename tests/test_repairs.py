@@ -104,7 +104,7 @@ def turned_bounds(rng, value, row, grammar):
         cost, size = value[key]
         for pair in (
             (cost, size - 1), (cost, size + 1), (cost + 1, 0), (max(cost - 1, 0), size + 9), (0, 0), (cost, -1), (-1, size), [cost, size],
-            (cost, True), (cost, size, 0), None, (str(cost), size), (cost + 10 ** 119, size), (cost, size + 10 ** 119),
+            (cost, True), (cost, size, 0), (cost,), (), None, (str(cost), size), (cost + 10 ** 119, size), (cost, size + 10 ** 119),
         ):
             found.append({**value, key: pair})
         found.append({one: value[one] for one in value if one != key})
@@ -170,6 +170,18 @@ class Bounds(unittest.TestCase):
                 self.assertIs(is_bound(grammar, costs, row, value), right, (grammar, costs, row, value))
                 seen[right] += 1
         self.assertGreater(min(seen.values()), 100)
+
+    def test_great_numbers(self):
+        # Great numbers of items do not make up for costs.
+        grammar = (("a",), "S", (("S", ("A",)), ("A", ("a",))))
+        costs = ((1,), (1,), 1)
+        for great in (10 ** 119, 2 ** 200, 2 ** 199, 2 ** 201):
+            for one, right in (
+                ((1, 0), False), ((0, great), True), ((0, great + 1), True), ((0, great + 2), False), ((1, great), False), ((0, 0), True),
+            ):
+                self.assertIs(is_bound(grammar, costs, (), {("A", 0, 0): (0, great), ("S", 0, 0): one}), right)
+                self.assertIs(is_bound(grammar, costs, (), {("A", 0, 0): (0, great), ("S", 0, 0): one, ("Zz", 0, 0): one}), False)
+            self.assertIs(is_bound(grammar, costs, (), {("A", 0, 0): (1, 2), ("S", 0, 0): (great, 0)}), False)
 
     def test_any_values(self):
         for value in junk() + [{}, {1: 2}, {(): ()}, {"S": None}, [("S", 0, 0)]]:
@@ -303,6 +315,17 @@ class Completions(unittest.TestCase):
         self.assertIsNone(complete(BARREN, (1, 5), ("a",)))
         self.assertEqual(complete(HG, (1, 5), ("a",) * 30)[:2], (5, ("b",)))
 
+    def test_like_costs(self):
+        # Three tokens a cost as much as one b; the lesser tree is told.
+        for bare in range(1, 8):
+            chain = [("A", ("b",))] if bare == 1 else [("A", ("N2",))]
+            chain += [(f"N{at}", (f"N{at + 1}",)) for at in range(2, bare)] + ([(f"N{bare}", ("b",))] if bare > 1 else [])
+            grammar = (("a", "b"), "S", (("S", ("a", "a", "a")), ("S", ("A",))) + tuple(chain))
+            told = complete(grammar, (1, 3), ())
+            self.assertEqual((told[0], len(told[2])), (3, min(4, bare + 2)))
+            costs = ((1, 3), (1, 1), 1)
+            self.assertEqual(len(repair(grammar, costs, ())[2]), min(4, bare + 2))
+
 
 def plain_panic(grammar, stops, row):
     """By the words of [52]: the steps up to the end of the row, and the kept row."""
@@ -434,6 +457,15 @@ class Limits(unittest.TestCase):
             self.assertEqual(least_costs(grammar, costs, ())["S", 0, 0], (0, size))
             calls = ((repair, grammar, costs, ()), (complete, grammar, costs[0], ()), (panic, grammar, costs[0], (), ("a",)))
             for at, call in enumerate(calls):
+                if size <= 10000:
+                    self.assertEqual(len(call[0](*call[1:])[(2, 2, 1)[at]]), size)
+                else:
+                    check_too_many(self, 10000, *call)
+            # The tokens that are kept count, too.
+            rules = tuple(rule if rule[0] != "S" else ("First",) + rule[1:] for rule in sized_grammar(size - 6)[2])
+            grammar = (("a", "b"), "S", (("S", ("a", "b", "a", "a", "b", "First")),) + rules)
+            row = ("a", "b", "a", "a", "b")
+            for at, call in enumerate(((repair, grammar, costs, row), (complete, grammar, costs[0], row), (panic, grammar, costs[0], (), row))):
                 if size <= 10000:
                     self.assertEqual(len(call[0](*call[1:])[(2, 2, 1)[at]]), size)
                 else:

@@ -91,7 +91,7 @@ class Refusals(unittest.TestCase):
             self.assertIs(type(told), type(None) if known else InvalidSteps, value)
         self.assertGreater(min(seen.values()), 20)
         for step in (
-            ("keep",), ("keep", "a", "b"), ("change", "a"), ("change", "a", "a"), ("change", "a", "b", "c"), ("put", "A"), ("put", None),
+            ("keep",), ("change",), ("keep", "a", "b"), ("change", "a"), ("change", "a", "a"), ("change", "a", "b", "c"), ("put", "A"), ("put", None),
             ("drop", "a"), ("leave", ["a"]), ["keep", "a"], ("change", "a", "B"), ("Keep", "a"), (("keep",), "a"), (None, "a"), (), "keep",
         ):
             self.assertIs(type(error_of(steps_rows, (step,))), InvalidSteps, step)

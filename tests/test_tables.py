@@ -255,7 +255,8 @@ class Making(unittest.TestCase):
         for bad in (
             list(ways), (list(ways[0]),) + ways[1:], ((("S", 1, 1),),) + ways[1:], ((["S", 1],),) + ways[1:], ((("S",),),) + ways[1:],
             ((("S", 5),),) + ways[1:], ((("S", True),),) + ways[1:], ways[1:], ways + ((),), None, (None,) * 5, ((("S", 1), ("S", 2)),) + ways[1:],
-            (("S", 1),) * 5, "SSSSS",
+            (("S", 1),) * 5, "SSSSS", ways[:1] + ((("a",),),) + ways[2:], ways[:1] + ((("a", 1, 1),),) + ways[2:],
+            ways[:1] + ((("a", 1), ()),) + ways[2:],
         ):
             self.assertIs(type(error_of(table_of, HG, bad, HA)), InvalidTable, bad)
         for bad in (list(HA), HA[1:], HA + ((),), None, (HA[0][::-1],) + HA[1:], ((("a", ("shift",)),),) + HA[1:]):
