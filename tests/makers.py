@@ -730,6 +730,13 @@ LISTS = (
         ("V", ("S",)),
     ),
 )
+# Levels of sums and products.
+LEVELED = (
+    ("close", "num", "open", "plus", "times"), "E",
+    (
+        ("E", ("E", "plus", "T")), ("E", ("T",)), ("T", ("T", "times", "F")), ("T", ("F",)), ("F", ("num",)), ("F", ("open", "E", "close")),
+    ),
+)
 MIRROR = (("a", "b", "c"), "S", (("S", ("a", "S", "a")), ("S", ("b", "S", "b")), ("S", ("c",)), ("S", ())))
 BARE = (("a", "b"), "S", (("S", ("A", "B")), ("A", ()), ("A", ("A", "a")), ("B", ("D",)), ("D", ("E",)), ("E", ("b",)), ("E", ())))
 NONE = ((), ())
@@ -792,7 +799,7 @@ def some_precedence(rng, grammar):
 def built_tables(seed, count):
     """Pairs of a grammar and of a table of a built automaton of it, conflicts settled in any way."""
     rng = random.Random(seed)
-    known = [HG, G, F, EG, FL, FC, GG, STARS, RINGS, LOST, APART, PLUS, LISTS, MIRROR, BARE]
+    known = [HG, G, F, EG, FL, FC, GG, STARS, RINGS, LOST, APART, PLUS, LISTS, LEVELED, MIRROR, BARE]
     found = [(grammar, table_by(grammar, sort)) for grammar in known for sort in SORTS]
     for grammar in known + random_grammars(seed + 1, count):
         found.append((grammar, table_by(grammar, rng.choice(SORTS), some_precedence(rng, grammar))))

@@ -4,14 +4,14 @@ import unittest
 from shiftroads.charts import chart, dead_end, takes
 from shiftroads.errors import InvalidGrammar, InvalidRow
 from shiftroads.firsts import is_sentence
-from tests.makers import BARE, C, EG, F, FC, G, GG, HG, J, LISTS, LOST, MIRROR, PLUS, RINGS, all_rows, check_refusals
+from tests.makers import BARE, C, EG, F, FC, G, GG, HG, J, LEVELED, LISTS, LOST, MIRROR, PLUS, RINGS, all_rows, check_refusals
 from tests.makers import check_steady, error_of, nothing, plain_columns, prefixes_up_to, random_grammars, small_rows
 from tests.makers import words_up_to
 
 BARREN = (("a", "b"), "S", (("S", ("a", "S")), ("S", ("S",)), ("A", ("b",))))
 # Tokens can go on behind what begins a sentence, in symbols without trees.
 ASIDE = (("a", "b", "c"), "S", (("S", ("a",)), ("S", ("a", "B")), ("B", ("b", "B")), ("B", ("b", "c", "B"))))
-KNOWN = [HG, G, F, C, EG, FC, GG, RINGS, LOST, J, MIRROR, LISTS, PLUS, BARE, BARREN, ASIDE]
+KNOWN = [HG, G, F, C, EG, FC, GG, RINGS, LOST, J, MIRROR, LISTS, LEVELED, PLUS, BARE, BARREN, ASIDE]
 
 
 def plain_dead_end(grammar, row, words, begins):

@@ -142,7 +142,7 @@ class Edits(unittest.TestCase):
                 seen[told[0]] += 1
                 seen["taken"] += edited.taken != ()
                 seen["two"] += len(edited.taken) > 1
-        self.assertGreater(min(seen.values()), 60)
+        self.assertGreater(min(seen.values()), 30)
 
     def test_long_rows(self):
         rng = random.Random(443)

@@ -5,11 +5,11 @@ import unittest
 from shiftroads.errors import Endless, InvalidGrammar, InvalidNumber, InvalidRow, InvalidTree, TooMany
 from shiftroads.forests import forest, some_trees, tree_at, tree_count, tree_number
 from shiftroads.trees import is_tree, leaves_of
-from tests.makers import BARE, C, EG, F, FC, G, GG, HG, J, LISTS, LOST, MIRROR, PLUS, RINGS, all_trees, bent, check_refusals
+from tests.makers import BARE, C, EG, F, FC, G, GG, HG, J, LEVELED, LISTS, LOST, MIRROR, PLUS, RINGS, all_trees, bent, check_refusals
 from tests.makers import check_steady, check_too_many, error_of, junk, nothing, plain_spans, random_grammars, small_rows
 
 UNIT = (("a",), "S", (("S", ("S",)), ("S", ("a",))))
-KNOWN = [HG, G, F, C, EG, FC, GG, RINGS, LOST, J, MIRROR, LISTS, PLUS, BARE, UNIT]
+KNOWN = [HG, G, F, C, EG, FC, GG, RINGS, LOST, J, MIRROR, LISTS, LEVELED, PLUS, BARE, UNIT]
 MANY = 10 ** 60
 
 

@@ -224,6 +224,22 @@ class Reading(unittest.TestCase):
             self.assertEqual(language.read("  ;  "), ("refused", 5, ("dot",)))
             self.assertEqual(language.read(" ; . )"), ("refused", 5, ("dot", None)))
 
+    def test_refused_at_each_place(self):
+        for sort in SORTS:
+            language = Language(SUMS, RULES, sort, False)
+            words = ["12", "+", "3", "+", "45"]
+            for at in range(6):
+                for blank in ("", " ", "  "):
+                    turned = list(words)
+                    turned[at:at + 1] = ["+" if at % 2 == 0 else "7"]
+                    text = " " + " ".join(word + blank for word in turned)
+                    place = 1 + sum(len(word + blank) + 1 for word in turned[:at])
+                    hopes = ("num",) if at % 2 == 0 else ("plus", None)
+                    self.assertEqual(language.read(text), ("refused", place, hopes))
+                    text = "".join(word + blank for word in words[:at])
+                    told = language.read(text)
+                    self.assertEqual(told[0] if at % 2 else told, "tree" if at % 2 else ("refused", len(text), ("num",)))
+
     def test_unread(self):
         language = Language(SUMS, RULES, "lalr", False)
         for text, begin, at in (("x", 0, 0), ("1 + x", 4, 4), ("1 - 2 + +", 2, 2), ("+ + -", 4, 4)):
